@@ -1,0 +1,1 @@
+"""Chosentrees: the trees that a parser with resolved conflicts builds, for all texts."""

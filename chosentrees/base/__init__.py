@@ -1,0 +1,1 @@
+"""Symbols and grammars."""
