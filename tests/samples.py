@@ -8,10 +8,28 @@ ELSE = Grammar.from_lines("cond: S -> if S", "both: S -> if S else S", "act: S -
 NEST = Grammar.from_lines("push: S -> A S b", "base: S -> c", "none: A ->")
 PAIRS = Grammar.from_lines("one: S -> a A a", "two: S -> b A b", "three: S -> a B b", "four: S -> b B a",
                            "ca: A -> c", "cb: B -> c")
+NEAR = ("cond", ("if", ("both", ("if", ("act", ("x",)), "else", ("act", ("x",))))))
+FAR = ("both", ("if", ("cond", ("if", ("act", ("x",)))), "else", ("act", ("x",))))
 SMALL = "abcdefghijklmnopqrstuvwxyz"
 LARGE = SMALL.upper()
 SIGN_LIST = "+ - * / ^ = < > ! ? & | . , ; : ( ) [ ]".split(" ")
 PRINTABLE = [chr(code) for code in range(32, 127)]
+
+
+def chain_of(many):
+    """A tree of SUMS with so many nodes, each below the one ahead."""
+    tree = ("num", ("n",))
+    for _ in range(many - 1):
+        tree = ("neg", ("-", tree))
+    return tree
+
+
+def comb_of(many):
+    """A tree of SUMS with so many nodes, an odd number, to the left."""
+    tree = ("num", ("n",))
+    for _ in range(many // 2):
+        tree = ("plus", (tree, "+", ("num", ("n",))))
+    return tree
 
 
 def nested(depth, value=()):

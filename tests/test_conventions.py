@@ -5,9 +5,14 @@ import unittest
 from chosentrees import errors
 from chosentrees.base import grammars, symbols
 from chosentrees.base.grammars import Grammar, renamed
-from chosentrees.errors import InvalidGrammar, InvalidOperation, InvalidText, ParseError, TooMany, UnknownName
+from chosentrees.base.trees import all_trees, count_trees, is_tree, part_at, text_of
+from chosentrees.errors import (InvalidGrammar, InvalidLevels, InvalidNumber, InvalidOperation, InvalidResolution,
+                                InvalidText, InvalidTree, ParseError, TooMany, UnknownName)
+from chosentrees.run.parsers import Parser
+from chosentrees.table.levels import Levels, common, is_contained, is_resolution, joined, settled
+from chosentrees.table.tables import Table
 
-from samples import ELSE, NEST, ODD, PAIRS, SUMS
+from samples import ELSE, NEAR, NEST, ODD, PAIRS, SUMS
 
 
 class TestJudges(unittest.TestCase):
@@ -107,6 +112,71 @@ class TestWhichErrorComesFirst(unittest.TestCase):
                 renamed("SUMS", **wrong)
             with self.assertRaises(InvalidOperation):
                 renamed(SUMS, **wrong)
+
+
+class TestWrongObjectsOfThePackage(unittest.TestCase):
+    """Objects of the package stand where others are asked for."""
+
+    def setUp(self):
+        table = Table(ELSE)
+        self.objects = [table, Levels(), Parser(table, {}), ParseError(3), Levels((("left", ("x",)),)), table.cells]
+
+    def test_judges(self):
+        for value in self.objects + [ELSE]:
+            for told in (is_tree(ELSE, value), is_resolution(Table(ELSE), value), value in Table(ELSE),
+                         value in Levels(), value in Parser(Table(ELSE), {}), symbols.is_terminals(value)):
+                self.assertIs(told, False)
+
+    def test_functions(self):
+        grammar, table = ELSE, Table(ELSE)
+        parser = Parser(table, {})
+        calls = [
+            (lambda value: count_trees(value, ()), InvalidGrammar), (lambda value: count_trees(grammar, value), InvalidText),
+            (lambda value: text_of(grammar, value), InvalidTree), (lambda value: part_at(grammar, NEAR, value), InvalidOperation),
+            (Table, InvalidGrammar), (lambda value: Table(grammar, value), InvalidOperation),
+            (lambda value: table[value], InvalidOperation), (table.items, InvalidOperation),
+            (lambda value: table.after(0, value), UnknownName), (table.walk, InvalidOperation),
+            (lambda value: table.lookaheads(0, value), UnknownName), (Levels, InvalidLevels),
+            (lambda value: Levels(own=value), InvalidLevels), (lambda value: Levels(order=value), InvalidLevels),
+            (lambda value: Levels()[value], InvalidNumber), (lambda value: Levels() + value, InvalidOperation),
+            (lambda value: Parser(table, value), InvalidResolution), (parser, InvalidText), (parser.tree, InvalidText),
+            (joined, InvalidResolution), (common, InvalidResolution), (lambda value: is_contained({}, value), InvalidResolution),
+        ]
+        for value in self.objects:
+            for call, error in calls:
+                with self.assertRaises(error):
+                    call(value)
+        for value in [each for each in self.objects if not isinstance(each, Table)]:
+            for call in (settled, Levels(), lambda value: Parser(value, {})):
+                with self.assertRaises(InvalidOperation):
+                    call(value)
+        for value in [each for each in self.objects if not isinstance(each, Levels)]:
+            with self.assertRaises(InvalidLevels):
+                Parser.by(grammar, value)
+
+
+class TestSeveralWrongArguments(unittest.TestCase):
+    def test_the_first_one_decides(self):
+        wrong = [None, True, [], (1,), "x"]
+        for one in wrong:
+            for two in wrong:
+                for three in wrong:
+                    for call, error in (
+                            (lambda: is_tree(one, two), InvalidGrammar), (lambda: part_at(one, two, three), InvalidGrammar),
+                            (lambda: part_at(ELSE, two, three), InvalidTree), (lambda: count_trees(one, two), InvalidGrammar),
+                            (lambda: next(all_trees(one, two)), InvalidGrammar), (lambda: Table(one, two), InvalidGrammar),
+                            (lambda: Table(ELSE).after(one, two), InvalidOperation),
+                            (lambda: Table(ELSE).lookaheads(one, two), InvalidOperation),
+                            (lambda: is_resolution(one, two), InvalidOperation),
+                            (lambda: Parser(one, two), InvalidOperation),
+                            (lambda: Parser.by(one, two, kind=three), InvalidGrammar),
+                            (lambda: Parser.by(ELSE, two, kind=three), InvalidLevels),
+                            (lambda: Levels().prefers(one, two, three), InvalidGrammar)):
+                        with self.assertRaises(error):
+                            call()
+                    with self.assertRaises(UnknownName) as caught:
+                        Levels().prefers(NEST, two, three)
+                    self.assertIs(caught.exception.wanted, two)
 
 
 class TestKindsOfResults(unittest.TestCase):

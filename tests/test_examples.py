@@ -1,16 +1,25 @@
-"""The examples that the document prints for errors, symbols and grammars."""
+"""The examples that the document prints, stages 1 to 6."""
 
 import unittest
 
 from chosentrees.base.grammars import Grammar, renamed
 from chosentrees.base.symbols import (END, is_before, is_name, is_nonterminal, is_terminal, read_terminals,
                                       write_terminals)
+from chosentrees.base.trees import all_trees, count_trees, is_tree, part_at, paths, size_of, text_of
 from chosentrees.errors import InvalidGrammar
+from chosentrees.run.parsers import Parser
+from chosentrees.table.levels import Levels, is_contained, settled
+from chosentrees.table.tables import KINDS, Table
 
 SUMS = Grammar.from_lines("num: E -> n", "plus: E -> E + E", "times: E -> E * E", "neg: E -> - E")
 ELSE = Grammar.from_lines("cond: S -> if S", "both: S -> if S else S", "act: S -> x")
 NEST = Grammar.from_lines("push: S -> A S b", "base: S -> c", "none: A ->")
 PAIRS = Grammar.from_lines("one: S -> a A a", "two: S -> b A b", "three: S -> a B b", "four: S -> b B a", "ca: A -> c", "cb: B -> c")
+
+NEAR = ("cond", ("if", ("both", ("if", ("act", ("x",)), "else", ("act", ("x",))))))
+FAR = ("both", ("if", ("cond", ("if", ("act", ("x",)))), "else", ("act", ("x",))))
+arith = Levels((("left", ("+",)), ("left", ("*",))), own={"neg": 1})
+usual, none = Parser(Table(SUMS, "slr"), arith(Table(SUMS, "slr"))), Parser(Table(NEST, "lr0"), {(0, "c"): "none", (2, "c"): "none"})
 
 
 class TestExamples(unittest.TestCase):
@@ -56,6 +65,53 @@ class TestExamples(unittest.TestCase):
     def test_the_printed_lines(self):
         self.assertEqual(SUMS.lines[1], "plus: E -> E + E")
         self.assertEqual(NEST.lines[2], "none: A ->")
+
+
+class TestTreesTablesAndParsers(unittest.TestCase):
+    def test_trees(self):
+        tree = ("plus", (("num", ("n",)), "+", ("times", (("num", ("n",)), "*", ("num", ("n",))))))
+        self.assertEqual(
+            [is_tree(SUMS, tree), text_of(SUMS, tree), size_of(SUMS, tree), part_at(SUMS, tree, (2, 1)), list(paths(ELSE, ("act", ("x",))))],
+            [True, ('n', '+', 'n', '*', 'n'), (5, 3), '*', [(), (0,)]])
+        self.assertEqual(
+            [count_trees(SUMS, text_of(SUMS, tree)), [each[0] for each in all_trees(SUMS, text_of(SUMS, tree))], list(all_trees(ELSE, text_of(ELSE, FAR))) == [NEAR, FAR]],
+            [2, ['plus', 'times'], True])
+        self.assertEqual(count_trees(SUMS, ("n",) + ("+", "n") * 20), 6564120420)
+
+    def test_tables(self):
+        table = Table(SUMS, "slr")
+        self.assertEqual(
+            [str(table), table.walk(("E", "+", "E")), table.items(8), table[(8, "+")], table[(8, "$")], table[(0, "+")], (8, "n") in table],
+            ['slr table of 9 states, 6 conflicts', 8, (('plus', 1), ('plus', 3), ('times', 1)), ('plus', 'shift'), ('plus',), (), False])
+        self.assertEqual(
+            [str(Table(ELSE)), list(Table(ELSE, kind="lr1").conflicts), [str(Table(PAIRS, kind)) for kind in KINDS[2:]]],
+            ['lalr table of 7 states, 1 conflicts', [(7, 'else')], ['lalr table of 13 states, 2 conflicts', 'lr1 table of 14 states, 0 conflicts']])
+        self.assertEqual(
+            [Table(PAIRS).lookaheads(4, "ca"), Table(PAIRS, "lr1").lookaheads(4, "ca"), Table(NEST, "lr0")[(0, "$")], Table(NEST)[(0, "c")], Table(PAIRS, "lr1").core(7)],
+            [('a', 'b'), ('a',), ('none',), ('none', 'shift'), 4])
+
+    def test_levels(self):
+        self.assertEqual(
+            [str(arith), arith.of_terminal("-"), arith.of_production(SUMS["neg"]), arith.prefers(SUMS, "*", "plus"), arith.prefers(SUMS, "*", "neg"), Levels().prefers(SUMS, "*", "plus")],
+            ['left +, left *', None, 1, 'shift', 'neg', 'shift'])
+        made = arith(Table(SUMS, "slr"))
+        self.assertEqual(
+            [made[(8, "*")], made[(8, "+")], made[(7, "*")], made[(4, "*")], len(made), is_contained(settled(Table(SUMS, "slr")), made)],
+            ['shift', 'plus', 'times', 'neg', 23, True])
+        self.assertIsNone(Levels((("none", ("+",)),))(Table(SUMS, "slr")).get((8, "+")))
+        self.assertEqual(
+            [str(arith + ("none", ())), str(Levels()), Levels(order=("cb",))(Table(PAIRS))[(4, "a")], Levels()(Table(PAIRS))[(4, "a")]],
+            ['left +, left *, none', 'no levels', 'cb', 'ca'])
+
+    def test_parsers(self):
+        self.assertEqual(
+            [str(usual), usual(("n", "+")), usual.tree(("n", "*", "n"))[0], ("n", "+", "n") in usual, "n" in usual, none(("c",))],
+            ['slr parser with 23 actions', ('refused', 2), 'times', True, False, ('endless', 0)])
+        self.assertEqual(list(Parser.by(ELSE, Levels()).steps(("x",))),
+                         [((0,), 'x', 'shift'), ((0, 2), '$', 'act'), ((0, 3), '$', 'accept')])
+        self.assertEqual(
+            [list(none.steps(("c",))), Parser.by(ELSE, Levels()).tree(text_of(ELSE, FAR)) == NEAR],
+            [[((0,), 'c', 'none'), ((0, 2), 'c', 'none'), ((0, 2, 2), 'c', None)], True])
 
 
 if __name__ == "__main__":

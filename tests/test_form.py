@@ -1,6 +1,7 @@
 """The form of the package: where names are defined, sizes, characters, and plain statements."""
 
 import ast
+import builtins
 import pathlib
 import unittest
 
@@ -12,14 +13,36 @@ INTERFACE = {
     "base/symbols.py": ("END", "SIGNS", "MAX_LETTERS", "MAX_TEXT", "is_terminal", "is_nonterminal", "is_name",
                         "is_terminals", "is_before", "write_terminals", "read_terminals"),
     "base/grammars.py": ("MAX_PRODUCTIONS", "MAX_BODY", "MAX_NONTERMINALS", "MAX_TERMINALS", "Grammar", "renamed"),
+    "base/trees.py": ("MAX_NODES", "is_tree", "text_of", "size_of", "paths", "part_at", "count_trees", "all_trees"),
+    "table/tables.py": ("KINDS", "MAX_STATES", "Table"),
+    "table/levels.py": ("ASSOCIATIVITIES", "is_resolution", "settled", "is_contained", "joined", "common", "Levels"),
+    "run/parsers.py": ("Parser",),
 }
 METHODS = {
     ("base/grammars.py", "Grammar"): (
         "__init__", "from_lines", "productions", "names", "start", "terminals", "nonterminals", "lines", "__getitem__",
         "__contains__", "__len__", "__iter__", "__eq__", "__str__", "of", "firsts", "follows", "least", "__add__",
         "__sub__", "__or__", "is_part_of"),
+    ("table/tables.py", "Table"): (
+        "__init__", "grammar", "kind", "cells", "conflicts", "__getitem__", "__contains__", "__len__", "__eq__",
+        "__str__", "items", "after", "walk", "lookaheads", "core"),
+    ("table/levels.py", "Levels"): (
+        "__init__", "groups", "own", "order", "__eq__", "__len__", "__str__", "__bool__", "__getitem__", "__contains__",
+        "of_terminal", "of_production", "__add__", "prefers", "__call__"),
+    ("run/parsers.py", "Parser"): (
+        "__init__", "by", "table", "resolution", "grammar", "__eq__", "__str__", "__call__", "outcome", "tree",
+        "__contains__", "steps"),
 }
 LIBRARY = ("heapq", "math", "itertools", "collections")
+BUILTINS = ("len range enumerate zip min max sum abs sorted reversed int str bool bytes list tuple dict set frozenset "
+            "isinstance ord repr any all divmod pow getattr hasattr setattr iter next map super classmethod property").split(" ")
+ALL_BUILTINS = set(dir(builtins))
+NOT_NAMED = ("register mro elements open input law version_info with_traceback add_note attrgetter breakpoint builtins "
+             "compile copyright credits delattr dir eval exec exit gc globals help id importlib license locals "
+             "methodcaller os quit type vars sys").split(" ")
+NOT_ATTRIBUTES = ("items keys values pop update append clear extend insert remove reverse setdefault sort args encode "
+                  "decode hex fromhex format").split(" ")
+SETS = (ast.Set, ast.SetComp)
 
 
 def files():
@@ -99,6 +122,108 @@ class TestStatements(unittest.TestCase):
                 self.assertNotIsInstance(node, unused, path)
                 if isinstance(node, ast.Constant):
                     self.assertNotIsInstance(node.value, (float, complex), path)
+
+
+def parents(tree):
+    """A dict from each node of a file to the one around it."""
+    return {inner: node for node in ast.walk(tree) for inner in ast.iter_child_nodes(node)}
+
+
+def is_set(node):
+    """Whether an expression makes a set."""
+    return isinstance(node, SETS) or (isinstance(node, ast.Call) and isinstance(node.func, ast.Name)
+                                      and node.func.id == "set")
+
+
+def is_call_of(node, words):
+    """Whether a node calls one of these names."""
+    return isinstance(node, ast.Call) and isinstance(node.func, ast.Name) and node.func.id in words
+
+
+class TestSubset(unittest.TestCase):
+    """The rules of the language that are easy to see."""
+
+    def setUp(self):
+        self.trees = [(path, ast.parse(text)) for path, text in files()]
+
+    def test_no_generator_expressions_and_no_annotations(self):
+        unused = (ast.GeneratorExp, ast.AnnAssign, ast.Match, ast.Try, ast.With, ast.NamedExpr)
+        for path, tree in self.trees:
+            for node in ast.walk(tree):
+                self.assertNotIsInstance(node, unused, path)
+
+    def test_sets_stand_where_they_are_allowed(self):
+        for path, tree in self.trees:
+            around = parents(tree)
+            for node in ast.walk(tree):
+                if is_set(node):
+                    self.assertTrue(is_call_of(around[node], ("sorted", "len")) or isinstance(around[node], ast.Compare),
+                                    (path, node.lineno))
+
+    def test_views_are_iterated_at_once(self):
+        for path, tree in self.trees:
+            around = parents(tree)
+            for node in ast.walk(tree):
+                if is_call_of(node, ("zip", "enumerate", "reversed")) or (
+                        isinstance(node, ast.Call) and isinstance(node.func, ast.Attribute)
+                        and node.func.attr in ("items", "keys", "values")):
+                    outer = around[node]
+                    at_once = isinstance(outer, (ast.For, ast.comprehension)) and outer.iter is node
+                    self.assertTrue(at_once or is_call_of(outer, ("list", "tuple", "sorted")), (path, node.lineno))
+
+    def test_names(self):
+        for path, tree in self.trees:
+            for node in ast.walk(tree):
+                if isinstance(node, ast.Name) and isinstance(node.ctx, ast.Load) and node.id in ALL_BUILTINS:
+                    self.assertTrue(node.id in BUILTINS or node.id in ("True", "False", "None", "NotImplemented")
+                                    or node.id.endswith(("Error", "Exception")), (path, node.id))
+                bound = node.id if isinstance(node, ast.Name) and isinstance(node.ctx, ast.Store) else (
+                    node.arg if isinstance(node, ast.arg) else None)
+                if isinstance(node, (ast.FunctionDef, ast.ClassDef)):
+                    self.assertNotIn(node.name, NOT_NAMED, path)
+                if bound is not None:
+                    self.assertFalse(bound in ALL_BUILTINS or bound in NOT_NAMED, (path, bound))
+                if isinstance(node, ast.Attribute) and isinstance(node.ctx, ast.Store):
+                    self.assertNotIn(node.attr, NOT_ATTRIBUTES, path)
+
+    def test_no_name_has_two_meanings(self):
+        methods, properties, attributes, generators, functions = [], [], [], [], []
+        for path, tree in self.trees:
+            around = parents(tree)
+            for node in ast.walk(tree):
+                if isinstance(node, ast.FunctionDef):
+                    words = [each.id for each in node.decorator_list if isinstance(each, ast.Name)]
+                    if any(isinstance(each, (ast.Yield, ast.YieldFrom)) for each in ast.walk(node)):
+                        generators.append(node.name)
+                    elif "property" in words:
+                        properties.append(node.name)
+                    elif isinstance(around[node], ast.ClassDef):
+                        methods.append(node.name)
+                    else:
+                        functions.append(node.name)
+                if isinstance(node, ast.Attribute) and isinstance(node.ctx, ast.Store):
+                    attributes.append(node.attr)
+        self.assertEqual(set(properties) & set(methods + generators + attributes), set())
+        self.assertEqual(set(generators) & set(methods + functions + attributes), set())
+        self.assertEqual(len(set(generators)), len(generators))
+        self.assertEqual(set(methods) & set(attributes), set())
+        self.assertNotIn("keys", methods + attributes + properties)
+
+    def test_imported_files_do_not_import_each_other(self):
+        arrows = {}
+        for path, tree in self.trees:
+            name = ".".join(path.relative_to(PACKAGE.parent).with_suffix("").parts)
+            arrows[name] = [node.module for node in ast.walk(tree) if isinstance(node, ast.ImportFrom)]
+        while arrows:
+            ended = [name for name in arrows if not any(each in arrows for each in arrows[name])]
+            self.assertTrue(ended, sorted(arrows))
+            arrows = {name: arrows[name] for name in arrows if name not in ended}
+
+    def test_strings(self):
+        for path, tree in self.trees:
+            for node in ast.walk(tree):
+                if isinstance(node, ast.Constant) and isinstance(node.value, str):
+                    self.assertNotIn(chr(37), node.value, path)
 
 
 if __name__ == "__main__":

@@ -1,0 +1,1 @@
+"""Parsers and their runs."""

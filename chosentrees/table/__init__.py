@@ -1,0 +1,1 @@
+"""Tables, resolutions and levels."""
