@@ -2,6 +2,7 @@
 
 from chosentrees.base.grammars import Grammar
 from chosentrees.errors import InvalidGrammar, ParseError
+from chosentrees.wish.filters import Filter
 
 SUMS = Grammar.from_lines("num: E -> n", "plus: E -> E + E", "times: E -> E * E", "neg: E -> - E")
 ELSE = Grammar.from_lines("cond: S -> if S", "both: S -> if S else S", "act: S -> x")
@@ -10,6 +11,9 @@ PAIRS = Grammar.from_lines("one: S -> a A a", "two: S -> b A b", "three: S -> a 
                            "ca: A -> c", "cb: B -> c")
 NEAR = ("cond", ("if", ("both", ("if", ("act", ("x",)), "else", ("act", ("x",))))))
 FAR = ("both", ("if", ("cond", ("if", ("act", ("x",)))), "else", ("act", ("x",))))
+USUAL = Filter((("child", "neg", 1, "plus"), ("child", "neg", 1, "times"), ("child", "plus", 2, "plus"),
+                ("child", "times", 0, "plus"), ("child", "times", 2, "plus"), ("child", "times", 2, "times")))
+DANGLING = Filter((("right", "both", 1, "cond"),))
 SMALL = "abcdefghijklmnopqrstuvwxyz"
 LARGE = SMALL.upper()
 SIGN_LIST = "+ - * / ^ = < > ! ? & | . , ; : ( ) [ ]".split(" ")

@@ -1,4 +1,4 @@
-"""The examples that the document prints, stages 1 to 6."""
+"""The examples that the document prints, stages 1 to 10."""
 
 import unittest
 
@@ -10,6 +10,10 @@ from chosentrees.errors import InvalidGrammar
 from chosentrees.run.parsers import Parser
 from chosentrees.table.levels import Levels, is_contained, settled
 from chosentrees.table.tables import KINDS, Table
+from chosentrees.wish.filters import Filter, Wishes, edge
+from chosentrees.wish.labels import clash, demanded, demands, is_built, label, least_of, missing
+from chosentrees.wish.papers import clashes, least_resolution, tree_demanding, wishes_paper
+from chosentrees.wish.surveys import chains, filter_demands, filter_survey
 
 SUMS = Grammar.from_lines("num: E -> n", "plus: E -> E + E", "times: E -> E * E", "neg: E -> - E")
 ELSE = Grammar.from_lines("cond: S -> if S", "both: S -> if S else S", "act: S -> x")
@@ -18,6 +22,7 @@ PAIRS = Grammar.from_lines("one: S -> a A a", "two: S -> b A b", "three: S -> a 
 
 NEAR = ("cond", ("if", ("both", ("if", ("act", ("x",)), "else", ("act", ("x",))))))
 FAR = ("both", ("if", ("cond", ("if", ("act", ("x",)))), "else", ("act", ("x",))))
+USUAL = Filter((("child", "neg", 1, "plus"), ("child", "neg", 1, "times"), ("child", "plus", 2, "plus"), ("child", "times", 0, "plus"), ("child", "times", 2, "plus"), ("child", "times", 2, "times")))
 arith = Levels((("left", ("+",)), ("left", ("*",))), own={"neg": 1})
 usual, none = Parser(Table(SUMS, "slr"), arith(Table(SUMS, "slr"))), Parser(Table(NEST, "lr0"), {(0, "c"): "none", (2, "c"): "none"})
 
@@ -112,6 +117,59 @@ class TestTreesTablesAndParsers(unittest.TestCase):
         self.assertEqual(
             [list(none.steps(("c",))), Parser.by(ELSE, Levels()).tree(text_of(ELSE, FAR)) == NEAR],
             [[((0,), 'c', 'none'), ((0, 2), 'c', 'none'), ((0, 2, 2), 'c', None)], True])
+
+
+class TestWishes(unittest.TestCase):
+    def test_labels_and_demands(self):
+        table, fine = Table(ELSE), Table(ELSE, "lr1")
+        self.assertEqual(
+            [label(table, NEAR, (1,)), label(table, NEAR, (1, 1)), label(table, NEAR, (1, 3)), demanded(table, NEAR, (1, 2)), demanded(table, NEAR, (1, 3))],
+            [(1, 'S', 'if', '$'), (1, 'S', 'x', 'else'), (5, 'S', 'x', '$'), ((4, 'else'), 'shift'), ((2, '$'), 'act')])
+        self.assertEqual([demand for demand in demands(table, FAR) if demand[0][0] == 4],
+                         [((4, 'else'), 'cond'), ((4, 'else'), 'shift')])
+        self.assertEqual(
+            [clash(table, (NEAR,)), clash(table, (FAR,)), clash(fine, (FAR,)), clash(fine, (NEAR, FAR)), clash(table, ())],
+            [None, (4, 'else'), None, (7, 'else'), None])
+        self.assertEqual(
+            [len(least_of(table, (NEAR,))), is_built(Parser(table, least_of(table, (NEAR,))), NEAR), missing(Parser(table, Levels()(table)), FAR)],
+            [10, True, (((4, 'else'), 'cond'),)])
+
+    def test_filters(self):
+        deep = ("times", (("num", ("n",)), "*", ("neg", ("-", ("plus", (("num", ("n",)), "+", ("num", ("n",))))))))
+        self.assertEqual(
+            [USUAL.allows(SUMS, deep), USUAL.broken(SUMS, deep), USUAL.fits(ELSE), len(USUAL), ("child", "neg", 1, "plus") in USUAL],
+            [False, (((2,), ('child', 'neg', 1, 'plus')),), False, 6, True])
+        self.assertEqual(
+            [len(list(USUAL.allowed(SUMS, ("n", "+", "n", "*", "n", "+", "n")))), edge(SUMS, deep, (), "right"), edge(SUMS, deep, (2,), "left")],
+            [1, ((), (2,), (2, 1), (2, 1, 2)), ((2,),)])
+        low = Filter((("right", "times", 0, "neg"), ("right", "plus", 0, "neg")))
+        self.assertEqual(
+            [str(USUAL | low), (USUAL | low) - USUAL == low, low.allows(SUMS, deep), str(Wishes(low, (deep,))), Wishes(trees=(deep,)).wants(SUMS, deep)],
+            ['filter of 8 bars', True, True, 'wishes with 2 bars and 1 trees', True])
+
+    def test_surveys(self):
+        firsts, spots = filter_survey(Table(ELSE), Filter())
+        self.assertEqual(
+            [[spot[:3] for spot in spots], firsts[spots[0]]],
+            [[(0, 'S', '$'), (1, 'S', '$'), (1, 'S', 'else'), (5, 'S', '$'), (5, 'S', 'else')], ('if', 'x')])
+        whole = (0, "S", "$", (), (), ())
+        self.assertEqual(
+            list(chains(Table(NEST), Filter(), whole, "push", filter_survey(Table(NEST), Filter())[0])),
+            [('c', ((0, 'A', 'c', (), (), ()), (2, 'S', 'b', (), (), ())), (((4, 'b'), 'shift'), ((5, '$'), 'push')))])
+        self.assertEqual([pair for pair in filter_demands(Table(ELSE), Filter(), (firsts, spots)) if pair[0][0] == 4],
+                         [((4, '$'), 'cond'), ((4, 'else'), 'cond'), ((4, 'else'), 'shift')])
+
+    def test_papers(self):
+        DANGLING = Filter((("right", "both", 1, "cond"),))
+        self.assertEqual(
+            [clashes(Table(ELSE), Wishes(Filter())), clashes(Table(ELSE), Wishes(DANGLING)), len(least_resolution(Table(ELSE), Wishes(DANGLING)))],
+            [((4, 'else'),), (), 13])
+        self.assertEqual(
+            [wishes_paper(Table(ELSE), Wishes(trees=(NEAR, FAR)))[:2], wishes_paper(Table(ELSE), Wishes(trees=(NEAR,)))[2]],
+            [('clash', (4, 'else')), None])
+        self.assertEqual([wishes_paper(Table(PAIRS, kind), Wishes(Filter()))[0] for kind in KINDS],
+                         ['clash', 'clash', 'clash', 'resolution'])
+        self.assertEqual(tree_demanding(Table(PAIRS), Wishes(Filter()), (4, "a"), "cb"), ('four', ('b', ('cb', ('c',)), 'a')))
 
 
 if __name__ == "__main__":

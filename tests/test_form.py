@@ -17,6 +17,11 @@ INTERFACE = {
     "table/tables.py": ("KINDS", "MAX_STATES", "Table"),
     "table/levels.py": ("ASSOCIATIVITIES", "is_resolution", "settled", "is_contained", "joined", "common", "Levels"),
     "run/parsers.py": ("Parser",),
+    "wish/labels.py": ("label", "labels", "demands", "demanded", "is_built", "missing", "clash", "least_of"),
+    "wish/filters.py": ("HOWS", "MAX_BARS", "MAX_TREES", "Filter", "edge", "Wishes"),
+    "wish/surveys.py": ("MAX_SPOTS", "filter_survey", "parser_survey", "pair_survey", "is_filter_survey",
+                        "is_parser_survey", "is_pair_survey", "chains", "filter_demands"),
+    "wish/papers.py": ("wishes_paper", "is_wishes_paper", "clashes", "least_resolution", "tree_demanding"),
 }
 METHODS = {
     ("base/grammars.py", "Grammar"): (
@@ -32,6 +37,11 @@ METHODS = {
     ("run/parsers.py", "Parser"): (
         "__init__", "by", "table", "resolution", "grammar", "__eq__", "__str__", "__call__", "outcome", "tree",
         "__contains__", "steps"),
+    ("wish/filters.py", "Filter"): (
+        "__init__", "children", "bars", "__contains__", "__iter__", "__len__", "__bool__", "__eq__", "__str__", "__or__",
+        "__and__", "__sub__", "is_part_of", "fits", "broken", "allows", "allowed"),
+    ("wish/filters.py", "Wishes"): (
+        "__init__", "bars", "trees", "__eq__", "__len__", "__str__", "__add__", "fit", "wants"),
 }
 LIBRARY = ("heapq", "math", "itertools", "collections")
 BUILTINS = ("len range enumerate zip min max sum abs sorted reversed int str bool bytes list tuple dict set frozenset "

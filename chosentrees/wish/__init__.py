@@ -1,0 +1,1 @@
+"""Labels, filters, surveys and papers of wishes."""

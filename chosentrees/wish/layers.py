@@ -1,0 +1,90 @@
+"""All chains of a production at a spot together.
+
+The chains go through the symbols of the body from the last one to the first. Behind the symbols from a dot
+on, a chain is told by its first so far, "" if all of these are empty. The layer of a dot has these firsts
+for all chains.
+"""
+
+from chosentrees.base.symbols import is_nonterminal
+
+
+class Layers:
+    """The chains of a production at a spot, with some firsts for each spot. They never change."""
+
+    def __init__(self, rule, spot, name, firsts):
+        """Find the layers; there are none if no chain begins."""
+        self._rule = rule
+        self._spot = spot
+        self._name = name
+        self._firsts = firsts
+        self._body = rule.body_of(name)
+        self._trail = rule.trail(spot, name)
+        self._rows = self._found_rows()
+
+    def _found_rows(self):
+        """The list of the layers of all dots: dicts from the firsts so far to True."""
+        many = len(self._body)
+        rows = [{} for _ in range(many + 1)]
+        if self._trail is None:
+            return rows
+        rows[many][""] = True
+        for dot in reversed(range(many)):
+            for first in rows[dot + 1]:
+                for wider in self._wider(dot, first):
+                    rows[dot][wider] = True
+        return rows
+
+    def _part(self, dot, first):
+        """The spot of the part behind a dot, by the first so far."""
+        ahead = self._rule.ahead_of(self._spot) if first == "" else first
+        return self._rule.part_spot(self._spot, self._name, dot, self._trail[dot], ahead)
+
+    def _wider(self, dot, first):
+        """The list of the firsts with which a chain can go on through the symbol behind a dot."""
+        symbol = self._body[dot]
+        if not is_nonterminal(symbol):
+            return [symbol] if self._rule.lets_shift(self._trail[dot], symbol) else []
+        inner = self._firsts.get(self._part(dot, first), ())
+        return [first if each == "" else each for each in inner]
+
+    def is_whole(self):
+        """Whether some chain is whole."""
+        return len(self._rows[0]) > 0
+
+    def whole_firsts(self):
+        """The list of the firsts of whole chains."""
+        return list(self._rows[0])
+
+    def trail(self):
+        """The trail of the production, or None."""
+        return self._trail
+
+    def parts_met(self):
+        """The list of the spots to which chains come, also such that do not get whole."""
+        return [self._part(dot, first) for dot, symbol in enumerate(self._body) if is_nonterminal(symbol)
+                for first in self._rows[dot + 1]]
+
+    def whole_parts(self):
+        """The list of the spots to which whole chains come."""
+        found = []
+        whole = self._rows[0]
+        for dot, symbol in enumerate(self._body):
+            # Each chain of the layer ahead of the dot gets whole; of those behind it only some do.
+            ended = {first: True for first in self._rows[dot + 1]
+                     if any([wider in whole for wider in self._wider(dot, first)])}
+            if is_nonterminal(symbol):
+                found.extend([self._part(dot, first) for first in ended])
+            whole = ended
+        return found
+
+    def whole_rows(self):
+        """The list of the different pairs of a first and the spots of all parts, from the left, of whole chains."""
+        found = {("", ()): True} if self._trail is not None else {}
+        for dot in reversed(range(len(self._body))):
+            wider = {}
+            for first, parts in found:
+                added = (self._part(dot, first),) if is_nonterminal(self._body[dot]) else ()
+                for each in self._wider(dot, first):
+                    wider[(each, added + parts)] = True
+            found = wider
+        return list(found)
