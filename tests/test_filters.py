@@ -41,6 +41,7 @@ class TestFilters(unittest.TestCase):
                          [(BAR, ("left", "plus", 0, "neg"), ("right", "plus", 2, "neg")), (BAR,),
                           (("left", "plus", 0, "neg"),)])
         self.assertEqual((one | Filter(), one & Filter(), Filter() - one), (one, Filter(), Filter()))
+        self.assertTrue(one != two and not one == two and one != Filter())
 
     def test_children(self):
         self.assertEqual(Filter.children(("neg", 1, "plus"), ("neg", 1, "times")).bars,

@@ -76,7 +76,7 @@ class TestForm(unittest.TestCase):
     def test_equality(self):
         same = Levels((("left", ("+",)), ("left", ("*",))), own={"neg": 1})
         self.assertTrue(ARITH == same and not ARITH != same)
-        for other in (Levels(ARITH.groups), Levels(ARITH.groups, own={"neg": 0}), Levels(ARITH.groups[:1], own={"neg": 0}),
+        for other in (Levels(ARITH.groups), Levels(ARITH.groups[::-1], own={"neg": 1}), Levels(ARITH.groups, own={"neg": 0}), Levels(ARITH.groups[:1], own={"neg": 0}),
                       Levels(ARITH.groups, own={"neg": 1}, order=("neg",)), Levels()):
             self.assertTrue(ARITH != other and not ARITH == other)
         self.assertTrue(Levels(own={"neg": None}) != Levels())

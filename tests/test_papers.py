@@ -120,6 +120,10 @@ class TestManyWishes(unittest.TestCase):
                     found.setdefault(cell, []).append(action)
                     self.assertTrue(wishes.wants(table.grammar, tree))
                     self.assertIn((cell, action), plain_labels.demands(table, tree))
+                    if not wishes.trees:
+                        sizes = [plain_trees.node_count(each) for each in wanted
+                                 if (cell, action) in plain_labels.demands(table, each)]
+                        self.assertLessEqual(plain_trees.node_count(tree), min(sizes, default=200))
         self.assertEqual(clashes(table, wishes), tuple(cell for cell in found if len(found[cell]) > 1))
         if not clashes(table, wishes):
             self.assertEqual(least_resolution(table, wishes), {cell: row[0] for cell, row in found.items()})
@@ -220,6 +224,16 @@ class TestSizes(unittest.TestCase):
         self.assertEqual((paper[0], sorted(tree[0] for tree in paper[2])), ("clash", ["three", "two"]))
         self.assertGreater(len(clashes(table, Wishes(Filter()))), 1)
 
+    def test_two_ways_to_a_least_tree(self):
+        # The demand can be in the first part or in the second one; together with the rest the first one is less.
+        grammar = Grammar.from_lines("s: S -> P Q", "p: P -> D D D D D", "deep: P -> D W D D E", "q: Q -> q",
+                                     "wide: Q -> W D D D", "d: D -> d", "e: E -> D D", "w: W -> u v")
+        for kind in KINDS[:3]:
+            table = Table(grammar, kind)
+            cell = (table.walk(("D", "u")), "v")
+            tree = tree_demanding(table, Wishes(Filter()), cell, "shift")
+            self.assertEqual((plain_trees.node_count(tree), tree[1][0][0]), (10, "deep"))
+
     def test_told_trees_of_two_hundred_nodes(self):
         table = Table(SUMS)
         paper = wishes_paper(table, Wishes(trees=(chain_of(200),)))
@@ -286,10 +300,9 @@ class TestJudge(unittest.TestCase):
         self.assertIs(is_wishes_paper(table, Wishes(trees=(NEAR,)), ("clash", cell, (NEAR, FAR))), False)
         self.assertIs(is_wishes_paper(Table(ELSE, "lr1"), wishes, ("clash", (7, "else"), (NEAR, FAR))), True)
         self.assertIs(is_wishes_paper(Table(ELSE, "lr1"), wishes, ("clash", (7, "else"), (FAR,))), False)
-        nest = Table(NEST)
-        deep = wishes_paper(nest, Wishes(Filter()))[2]
-        for tree in deep:
-            self.assertIs(Wishes(Filter()).wants(NEST, tree), True)
+        word, cell, trees = wishes_paper(Table(NEST), Wishes(Filter()))
+        self.assertEqual((word, cell), ("clash", (0, "c")))
+        self.assertIs(is_wishes_paper(Table(NEST), Wishes(Filter()), (word, (False, "c"), trees)), False)
 
 
 class TestErrors(unittest.TestCase):

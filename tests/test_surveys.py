@@ -10,8 +10,10 @@ from chosentrees.run.parsers import Parser
 from chosentrees.table.levels import Levels
 from chosentrees.table.tables import KINDS, Table
 from chosentrees.wish import surveys
+from chosentrees.wish.closing import Search
 from chosentrees.wish.filters import Filter
 from chosentrees.wish.labels import demands
+from chosentrees.wish.rules import FilterRule
 from chosentrees.wish.surveys import (chains, filter_demands, filter_survey, is_filter_survey, is_pair_survey,
                                       is_parser_survey, pair_survey, parser_survey)
 
@@ -94,6 +96,15 @@ class TestByFilters(unittest.TestCase):
         made = filter_survey(Table(grammar), bars)
         self.assertGreater(len(made[1]), 1000)
         self.assertIs(is_filter_survey(Table(grammar), bars, made), True)
+
+    def test_the_limit_itself(self):
+        table = Table(SUMS)
+        many = len(filter_survey(table, USUAL)[0])
+        rule = FilterRule(table, USUAL.bars)
+        self.assertEqual(Search(rule, many, {}).firsts(), filter_survey(table, USUAL)[0])
+        with self.assertRaises(TooMany) as caught:
+            Search(rule, many - 1, {})
+        self.assertEqual(caught.exception.limit, many - 1)
 
 
 class TestByParsers(unittest.TestCase):

@@ -24,15 +24,20 @@ class Layers:
     def _found_rows(self):
         """The list of the layers of all dots: dicts from the firsts so far to True."""
         many = len(self._body)
-        rows = [{} for _ in range(many + 1)]
         if self._trail is None:
-            return rows
-        rows[many][""] = True
+            return [{} for _ in range(many + 1)]
+        rows = [{"": True}]
         for dot in reversed(range(many)):
-            for first in rows[dot + 1]:
-                for wider in self._wider(dot, first):
-                    rows[dot][wider] = True
-        return rows
+            rows.append(self._layer_ahead(dot, rows[-1]))
+        return rows[::-1]
+
+    def _layer_ahead(self, dot, layer):
+        """The layer of a dot, by the layer behind its next symbol."""
+        found = {}
+        for first in layer:
+            for wider in self._wider(dot, first):
+                found[wider] = True
+        return found
 
     def _part(self, dot, first):
         """The spot of the part behind a dot, by the first so far."""
