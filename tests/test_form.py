@@ -236,5 +236,103 @@ class TestSubset(unittest.TestCase):
                     self.assertNotIn(chr(37), node.value, path)
 
 
+CHANGING = ("append", "clear", "extend", "insert", "pop", "remove", "reverse", "setdefault", "sort", "update", "add",
+            "discard")
+COPYING = ("list", "tuple", "dict", "sorted", "range", "len")
+
+
+def plain_name(node):
+    """The words of a name, or of an attribute of one, or None."""
+    if isinstance(node, ast.Name):
+        return node.id
+    if isinstance(node, ast.Attribute):
+        owner = plain_name(node.value)
+        return None if owner is None else f"{owner}.{node.attr}"
+    return None
+
+
+def named_in(node):
+    """The names to which an expression can give another name: itself, an item, the sides of a choice."""
+    if isinstance(node, ast.IfExp):
+        return named_in(node.body) + named_in(node.orelse)
+    if isinstance(node, ast.BoolOp):
+        return [name for value in node.values for name in named_in(value)]
+    name = plain_name(node)
+    return [] if name is None else [name]
+
+
+def walked(node):
+    """The names over which a loop with this expression goes."""
+    if isinstance(node, ast.Call):
+        if isinstance(node.func, ast.Name) and node.func.id in ("enumerate", "zip", "reversed", "iter"):
+            return [name for each in node.args for name in walked(each)]
+        if isinstance(node.func, ast.Attribute) and node.func.attr in ("items", "keys", "values"):
+            return walked(node.func.value)
+        return []
+    return named_in(node)
+
+
+def changed_in(nodes):
+    """The names that are changed somewhere in these statements: an item of them, or by a method."""
+    found = []
+    for node in [inner for each in nodes for inner in ast.walk(each)]:
+        if isinstance(node, ast.Subscript) and isinstance(node.ctx, (ast.Store, ast.Del)):
+            found += named_in(node.value)
+        elif isinstance(node, ast.Call) and isinstance(node.func, ast.Attribute) and node.func.attr in CHANGING:
+            found += named_in(node.func.value)
+        elif is_call_of(node, ("heappush", "heappop", "heapify")):
+            found += named_in(node.args[0])
+        elif isinstance(node, ast.AugAssign):
+            found += named_in(node.target)
+    return found
+
+
+def same_names(function):
+    """For each name of a function all names that some assignment in it gives to the same value."""
+    pairs = [(target.id, name) for node in ast.walk(function) if isinstance(node, ast.Assign)
+             for target in node.targets if isinstance(target, ast.Name) for name in named_in(node.value)]
+    groups = []
+    for pair in pairs:
+        near = [group for group in groups if group & set(pair)]
+        groups = [group for group in groups if group not in near] + [set(pair).union(*near)]
+    return {name: group for group in groups for name in group}
+
+
+def changed_loops(function):
+    """The lines of the loops of a function in which it changes what they go over, under any of its names."""
+    same = same_names(function)
+    found = []
+    for node in ast.walk(function):
+        if isinstance(node, ast.For):
+            inner = changed_in(node.body + node.orelse)
+            over = {other for name in walked(node.iter) for other in same.get(name, {name})}
+            if over & set(inner):
+                found.append(node.lineno)
+    return found
+
+
+class TestLoops(unittest.TestCase):
+    """What a loop goes over is not changed in it."""
+
+    def test_the_package(self):
+        for path, text in files():
+            for node in ast.walk(ast.parse(text)):
+                if isinstance(node, ast.FunctionDef):
+                    self.assertEqual(changed_loops(node), [], (path, node.name))
+
+    def test_loops_that_change_what_they_go_over(self):
+        for head, body in (("for x in xs", "xs.append(x)"), ("for x in xs", "ys[x] = 1"), ("for x in enumerate(xs)", "del xs[0]"),
+                           ("for x, y in xs.items()", "ys.pop(x)"), ("for x in xs if k else zs", "zs[0] = x"),
+                           ("for x in zip(zs, xs)", "heappush(ys, x)"), ("for x in self.rows", "self.rows.clear()")):
+            text = f"def f(xs, zs, k):\n    ys = {{}}\n    {head}:\n        {body}\n    xs = ys\n"
+            self.assertEqual(changed_loops(ast.parse(text).body[0]), [3], text)
+
+    def test_loops_that_do_not(self):
+        for head, body in (("for x in list(xs)", "xs.append(x)"), ("for x in xs", "zs[x] = 1"), ("for x in sorted(xs)", "del xs[0]"),
+                           ("for x in self.rows", "self.ends.clear()"), ("for x in range(len(xs))", "xs[x] = 1")):
+            text = f"def f(xs, zs, k):\n    ys = {{}}\n    {head}:\n        {body}\n    xs = ys\n"
+            self.assertEqual(changed_loops(ast.parse(text).body[0]), [], text)
+
+
 if __name__ == "__main__":
     unittest.main()

@@ -84,12 +84,16 @@ class Layers:
 
     def whole_rows(self):
         """The list of the different pairs of a first and the spots of all parts, from the left, of whole chains."""
-        found = {("", ()): True} if self._trail is not None else {}
+        rows = [("", ())] if self._trail is not None else []
         for dot in reversed(range(len(self._body))):
-            wider = {}
-            for first, parts in found:
-                added = (self._part(dot, first),) if is_nonterminal(self._body[dot]) else ()
-                for each in self._wider(dot, first):
-                    wider[(each, added + parts)] = True
-            found = wider
+            rows = self._rows_ahead(dot, rows)
+        return rows
+
+    def _rows_ahead(self, dot, rows):
+        """The list of the different pairs of a first and the spots of parts from a dot on, by those behind it."""
+        found = {}
+        for first, parts in rows:
+            added = (self._part(dot, first),) if is_nonterminal(self._body[dot]) else ()
+            for wider in self._wider(dot, first):
+                found[(wider, added + parts)] = True
         return list(found)
