@@ -1,4 +1,4 @@
-"""The examples that the document prints, stages 1 to 10."""
+"""The examples that the document prints, stages 1 to 14."""
 
 import unittest
 
@@ -6,13 +6,17 @@ from chosentrees.base.grammars import Grammar, renamed
 from chosentrees.base.symbols import (END, is_before, is_name, is_nonterminal, is_terminal, read_terminals,
                                       write_terminals)
 from chosentrees.base.trees import all_trees, count_trees, is_tree, part_at, paths, size_of, text_of
+from chosentrees.compare.compared import are_alike, comparison_paper, inclusion_paper, kinds_alike, least_outside, least_parting
+from chosentrees.compare.met import cells_met, endless_text, lost_texts, refusing, text_to
 from chosentrees.errors import InvalidGrammar
 from chosentrees.run.parsers import Parser
 from chosentrees.table.levels import Levels, is_contained, settled
 from chosentrees.table.tables import KINDS, Table
+from chosentrees.wish.exact import can_be_exact, is_exact, least_beyond, missed_paper, within_paper
 from chosentrees.wish.filters import Filter, Wishes, edge
 from chosentrees.wish.labels import clash, demanded, demands, is_built, label, least_of, missing
 from chosentrees.wish.papers import clashes, least_resolution, tree_demanding, wishes_paper
+from chosentrees.wish.ranking import can_fit, free_needed, is_levels_paper, levels_paper
 from chosentrees.wish.surveys import chains, filter_demands, filter_survey
 
 SUMS = Grammar.from_lines("num: E -> n", "plus: E -> E + E", "times: E -> E * E", "neg: E -> - E")
@@ -25,6 +29,10 @@ FAR = ("both", ("if", ("cond", ("if", ("act", ("x",)))), "else", ("act", ("x",))
 USUAL = Filter((("child", "neg", 1, "plus"), ("child", "neg", 1, "times"), ("child", "plus", 2, "plus"), ("child", "times", 0, "plus"), ("child", "times", 2, "plus"), ("child", "times", 2, "times")))
 arith = Levels((("left", ("+",)), ("left", ("*",))), own={"neg": 1})
 usual, none = Parser(Table(SUMS, "slr"), arith(Table(SUMS, "slr"))), Parser(Table(NEST, "lr0"), {(0, "c"): "none", (2, "c"): "none"})
+DANGLING = Filter((("right", "both", 1, "cond"),))
+calm = Parser(Table(SUMS), least_resolution(Table(SUMS), Wishes(USUAL)))
+fitting = ("levels", Levels((("left", ("+",)), ("left", ("*",)), ("left", ("-",)))))
+near = Parser.by(ELSE, Levels())
 
 
 class TestExamples(unittest.TestCase):
@@ -160,7 +168,6 @@ class TestWishes(unittest.TestCase):
                          [((4, '$'), 'cond'), ((4, 'else'), 'cond'), ((4, 'else'), 'shift')])
 
     def test_papers(self):
-        DANGLING = Filter((("right", "both", 1, "cond"),))
         self.assertEqual(
             [clashes(Table(ELSE), Wishes(Filter())), clashes(Table(ELSE), Wishes(DANGLING)), len(least_resolution(Table(ELSE), Wishes(DANGLING)))],
             [((4, 'else'),), (), 13])
@@ -170,6 +177,42 @@ class TestWishes(unittest.TestCase):
         self.assertEqual([wishes_paper(Table(PAIRS, kind), Wishes(Filter()))[0] for kind in KINDS],
                          ['clash', 'clash', 'clash', 'resolution'])
         self.assertEqual(tree_demanding(Table(PAIRS), Wishes(Filter()), (4, "a"), "cb"), ('four', ('b', ('cb', ('c',)), 'a')))
+
+
+class TestParsersAgainstWishesAndParsers(unittest.TestCase):
+    def test_nothing_else_and_nothing_missed(self):
+        self.assertEqual([is_exact(calm, USUAL), least_beyond(calm, USUAL), within_paper(calm, USUAL)[0], missed_paper(calm, Filter())[0]],
+                         [True, None, 'within', 'missed'])
+        self.assertEqual(
+            [least_beyond(Parser(Table(SUMS), {**calm.resolution, (8, "*"): "plus"}), USUAL), can_be_exact(Table(ELSE), Filter()), can_be_exact(Table(ELSE), DANGLING)],
+            [('n', '+', 'n', '*', 'n'), False, True])
+
+    def test_levels_for_a_resolution(self):
+        self.assertEqual([levels_paper(Table(SUMS), calm.resolution)[0], is_levels_paper(Table(SUMS), calm.resolution, fitting)],
+                         ['levels', True])
+        odd = {(4, "*"): "neg", (7, "+"): "shift", (8, "*"): "shift", (8, "+"): "plus"}
+        self.assertEqual(
+            [can_fit(Table(SUMS), odd), levels_paper(Table(SUMS), odd)[0], can_fit(Table(SUMS), odd, free=("times",)), free_needed(Table(SUMS), odd)],
+            [False, 'way', True, (('times',),)])
+
+    def test_parsers_compared(self):
+        low = Parser.by(SUMS, Levels((("left", ("-",)), ("left", ("+",)), ("left", ("*",)))))
+        self.assertEqual([are_alike(calm, Parser.by(SUMS, fitting[1])), least_parting(calm, low), comparison_paper(calm, low)[0]],
+                         [True, ('-', 'n', '*', 'n'), 'parted'])
+        wider = Parser.by(ELSE + ("loop", "S", ("while", "S")), Levels())
+        self.assertEqual(
+            [inclusion_paper(Parser.by(ELSE, Levels()), wider)[0], kinds_alike(ELSE, Levels()), kinds_alike(PAIRS, Levels())],
+            ['inside', (('lalr', 'lr0', 'lr1', 'slr'),), (('lalr', 'lr0', 'slr'), ('lr1',))])
+        shifts = Grammar.from_lines("one: S -> A b", "letter: A -> a")
+        self.assertEqual(least_outside(Parser.by(shifts, Levels()), Parser.by(shifts + ("two", "S", ("a", "b", "x")), Levels())),
+                         ('a', 'b'))
+
+    def test_cells_that_runs_meet(self):
+        self.assertEqual(
+            [text_to(near, (4, "else")), (4, "if") in cells_met(near), len(cells_met(near)), len(refusing(near)), endless_text(near), endless_text(none)],
+            [('if', 'x', 'else'), False, 22, 9, None, ('c',)])
+        self.assertEqual(list(lost_texts(Parser(Table(ELSE), {**near.resolution, (4, "else"): "cond"}), most=5)),
+                         [('if', 'x', 'else', 'x'), ('if', 'if', 'x', 'else', 'x'), ('if', 'x', 'else', 'if', 'x')])
 
 
 if __name__ == "__main__":

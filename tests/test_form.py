@@ -22,6 +22,12 @@ INTERFACE = {
     "wish/surveys.py": ("MAX_SPOTS", "filter_survey", "parser_survey", "pair_survey", "is_filter_survey",
                         "is_parser_survey", "is_pair_survey", "chains", "filter_demands"),
     "wish/papers.py": ("wishes_paper", "is_wishes_paper", "clashes", "least_resolution", "tree_demanding"),
+    "wish/exact.py": ("within_paper", "is_within_paper", "least_beyond", "missed_paper", "is_missed_paper", "is_exact",
+                      "can_be_exact"),
+    "wish/ranking.py": ("levels_paper", "is_levels_paper", "can_fit", "free_needed"),
+    "compare/compared.py": ("inclusion_paper", "is_inclusion_paper", "least_outside", "comparison_paper",
+                            "is_comparison_paper", "least_parting", "are_alike", "kinds_alike"),
+    "compare/met.py": ("cells_met", "refusing", "text_to", "endless_text", "lost_texts"),
 }
 METHODS = {
     ("base/grammars.py", "Grammar"): (

@@ -1,19 +1,29 @@
 """What the document says is true, and what is not, of demands, clashes and least resolutions [0.26] [0.31] [0.32]."""
 
+import itertools
 import unittest
 
 from chosentrees.base.grammars import Grammar
-from chosentrees.base.trees import all_trees, count_trees, text_of
+from chosentrees.base.trees import all_trees, count_trees, size_of, text_of
+from chosentrees.compare.compared import are_alike, inclusion_paper, least_outside, least_parting
+from chosentrees.compare.met import lost_texts
 from chosentrees.run.parsers import Parser
 from chosentrees.table.levels import Levels, common, is_contained
 from chosentrees.table.tables import KINDS, Table
+from chosentrees.wish.exact import is_exact, missed_paper
 from chosentrees.wish.filters import Filter, Wishes
-from chosentrees.wish.labels import clash, demands, is_built
+from chosentrees.wish.labels import clash, demands, is_built, least_of
 from chosentrees.wish.papers import clashes, least_resolution, wishes_paper
+from chosentrees.wish.ranking import can_fit
 
 import plain_trees
 from samples import DANGLING, ELSE, FAR, NEAR, PAIRS, SUMS, USUAL
 from small import all_grammars, some_texts
+
+
+def plain_nodes(tree):
+    """The pairs of a path and a node."""
+    return [(path, part) for path, part in plain_trees.nodes(tree) if not isinstance(part, str)]
 
 
 class TestTrueStatements(unittest.TestCase):
@@ -83,6 +93,95 @@ class TestStatementsThatAreNotTrue(unittest.TestCase):
     def test_a_filter_can_want_trees_of_which_one_clashes_with_itself(self):
         self.assertEqual([clashes(Table(ELSE), Wishes(DANGLING, told)) for told in ((), (NEAR,), (FAR,))],
                          [(), (), ((4, "else"),)])
+
+    def test_if_two_of_three_trees_can_be_had_by_levels_all_three_can(self):
+        grammar = Grammar.from_lines("num: E -> n", "a: E -> E a E", "b: E -> E b E", "c: E -> E c E")
+        table = Table(grammar)
+        num = ("num", ("n",))
+        # Each sign binds closer than another one, round in a ring, on the right of it or, the last one, on the left.
+        one = ("a", (num, "a", ("b", (num, "b", num))))
+        two = ("b", (("b", (num, "b", num)), "b", ("c", (num, "c", num))))
+        trees = (one, two, ("c", (("a", (num, "a", num)), "c", num)))
+        for pair in itertools.combinations(trees, 2):
+            self.assertIs(can_fit(table, least_of(table, pair)), True)
+        resolution = least_of(table, trees)
+        self.assertTrue(all(is_built(Parser(table, resolution), tree) for tree in trees))
+        self.assertIs(can_fit(table, resolution), False)
+
+    def test_levels_mean_the_same_as_bars_for_children(self):
+        # The sign ahead has the lowest level: a sum below it is fine, but then nothing may come behind.
+        levels = Levels((("right", ("-",)), ("left", ("+",)), ("left", ("*",))))
+        parser = Parser.by(SUMS, levels)
+        trees = [parser.tree(text) for text in some_texts(SUMS, 6, 6000)]
+        broken = {(name, at, part[0]) for tree in trees if tree for where, (name, parts) in plain_nodes(tree)
+                  for at, part in enumerate(parts) if not isinstance(part, str)}
+        places = [("neg", 1)] + [(name, at) for name in ("plus", "times") for at in (0, 2)]
+        # All bars that no tree that is built breaks; other filters for children forbid a tree that is built, or allow more.
+        bars = Filter.children(*[(name, at, inner) for name, at in places for inner in SUMS.names
+                                 if (name, at, inner) not in broken])
+        self.assertEqual(missed_paper(parser, bars)[0], "missed")
+        self.assertIs(is_exact(parser, bars), False)
+
+    def test_parsers_that_are_alike_for_texts_of_five_terminals_are_alike(self):
+        grammar = Grammar.from_lines("one: S -> A T", "two: S -> B T c", "p: A -> x", "q: B -> x", "deep: T -> a a a a a")
+        table = Table(grammar)
+        rows = [Parser(table, {**Levels()(table), (table.walk(("x",)), "a"): name}) for name in ("p", "q")]
+        texts = [text for many in range(6) for text in itertools.product(grammar.terminals, repeat=many)]
+        self.assertEqual([rows[0].tree(text) for text in texts], [rows[1].tree(text) for text in texts])
+        self.assertIs(are_alike(*rows), False)
+        self.assertEqual(least_parting(*rows), ("x",) + ("a",) * 5)
+
+    def test_a_production_with_a_new_terminal_changes_no_old_tree(self):
+        grammar = Grammar.from_lines("one: S -> A b", "letter: A -> a")
+        more = grammar + ("two", "S", ("a", "b", "x"))
+        self.assertEqual(set(more.terminals) - set(grammar.terminals), {"x"})
+        self.assertEqual(least_outside(Parser.by(grammar, Levels()), Parser.by(more, Levels())), ("a", "b"))
+
+    def test_two_productions_that_change_nothing_one_by_one_change_nothing_together(self):
+        grammar = Grammar.from_lines("one: S -> A b", "two: S -> y B", "letter: A -> a", "end: B -> z")
+        added = (("three", "S", ("B", "c")), ("four", "B", ("a", "b")))
+        old = Parser.by(grammar, Levels())
+        for production in added:
+            self.assertEqual(inclusion_paper(old, Parser.by(grammar + production, Levels()))[0], "inside")
+        both = Parser.by(grammar + added[0] + added[1], Levels())
+        self.assertEqual(least_outside(old, both), ("a", "b"))
+
+    def test_wanted_trees_that_do_not_clash_can_be_had_by_levels(self):
+        lalr = Table(PAIRS)
+        trees = (("one", ("a", ("ca", ("c",)), "a")), ("three", ("a", ("cb", ("c",)), "b")))
+        resolution = least_of(lalr, trees)
+        self.assertEqual((resolution[(4, "a")], resolution[(4, "b")]), ("ca", "cb"))
+        self.assertEqual([can_fit(lalr, resolution), can_fit(lalr, resolution, free=("ca", "cb"))], [False, False])
+
+    def test_the_least_text_on_which_parsers_differ_has_the_least_tree(self):
+        grammar = Grammar.from_lines("deep: S -> A", "a: A -> B", "b: B -> x", "flat: S -> y y")
+        table = Table(grammar)
+        one, other = Parser(table, Levels()(table)), Parser(table, {})
+        text = least_parting(one, other)
+        self.assertEqual((text, size_of(grammar, one.tree(text))[0]), (("x",), 3))
+        self.assertEqual(size_of(grammar, one.tree(("y", "y")))[0], 1)
+
+    def test_lost_texts_where_each_conflict_has_an_action(self):
+        table = Table(ELSE)
+        parser = Parser(table, {**Levels()(table), (4, "else"): "cond"})
+        self.assertEqual(next(lost_texts(parser, most=4)), ("if", "x", "else", "x"))
+
+
+class TestParsersThatAreTheLeast(unittest.TestCase):
+    def test_what_the_least_resolution_builds_is_built_by_all_others(self):
+        for bars in (USUAL, Filter(USUAL.bars + (("child", "plus", 0, "neg"),))):
+            for kind in KINDS:
+                table = Table(SUMS, kind)
+                least = least_resolution(table, Wishes(bars))
+                free = [cell for cell in table.cells if cell not in least]
+                for more in ({}, {cell: table[cell][0] for cell in free}, {cell: table[cell][-1] for cell in free}):
+                    paper = inclusion_paper(Parser(table, least), Parser(table, {**least, **more}))
+                    self.assertEqual(paper[0], "inside")
+
+    def test_kinds_without_lookaheads_build_the_same_for_the_same_wishes(self):
+        for grammar, bars in ((SUMS, USUAL), (ELSE, DANGLING)):
+            parsers = [Parser(Table(grammar, kind), least_resolution(Table(grammar, kind), Wishes(bars))) for kind in KINDS]
+            self.assertEqual([are_alike(parsers[0], other) for other in parsers], [True] * 4)
 
 
 if __name__ == "__main__":

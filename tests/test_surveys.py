@@ -10,7 +10,7 @@ from chosentrees.run.parsers import Parser
 from chosentrees.table.levels import Levels
 from chosentrees.table.tables import KINDS, Table
 from chosentrees.wish import surveys
-from chosentrees.wish.closing import Search
+from chosentrees.wish.closing import NodeMeasure, NoMarks, Search
 from chosentrees.wish.filters import Filter
 from chosentrees.wish.labels import demands
 from chosentrees.wish.rules import FilterRule
@@ -101,9 +101,9 @@ class TestByFilters(unittest.TestCase):
         table = Table(SUMS)
         many = len(filter_survey(table, USUAL)[0])
         rule = FilterRule(table, USUAL.bars)
-        self.assertEqual(Search(rule, many, {}).firsts(), filter_survey(table, USUAL)[0])
+        self.assertEqual(Search(rule, many, NoMarks(), NodeMeasure()).firsts(), filter_survey(table, USUAL)[0])
         with self.assertRaises(TooMany) as caught:
-            Search(rule, many - 1, {})
+            Search(rule, many - 1, NoMarks(), NodeMeasure())
         self.assertEqual(caught.exception.limit, many - 1)
 
 

@@ -1,9 +1,9 @@
-"""The least closed survey, and least trees with a demand, by one search.
+"""The least closed survey, and least trees and texts with a mark, by one search.
 
-The search finds, for spots and firsts, trees with as few nodes as can be, the cheapest ones first. A row is
-a part of a chain: (spot, name, dot, first, mark), with the number of the spot, the first so far, and whether
-the node, or something behind the dot, has one of the demands that are looked for. Its cost is the number of
-nodes. A row with the dot 0 is a whole chain.
+The search finds, for spots and firsts, the cheapest trees, in ascending order of their costs. A measure tells
+the costs: no tree costs less than a part of it, and with a cheaper part it does not cost more. A row is a part
+of a chain: (spot, name, dot, first, mark), with the number of the spot, the first so far, and whether the node,
+or something behind the dot, is marked. A row with the dot 0 is a whole chain.
 """
 
 from heapq import heappop, heappush
@@ -13,19 +13,94 @@ from chosentrees.base.symbols import is_nonterminal
 from chosentrees.errors import TooMany
 
 
-class Search:
-    """All firsts of all spots to which the spot of the whole tree leads, and a least tree for each.
+class NoMarks:
+    """Nothing is marked."""
 
-    `wanted` is a dict from the demands that are looked for to True. Rows of more than `most` nodes are left
-    out, if it is not None.
+    def is_marked(self, rule, spot, name, trail):
+        """Whether the nodes of whole chains of a production at a spot are marked."""
+        return False
+
+
+class DemandMarks:
+    """Marked are the nodes that have one of some demands, themselves or by their terminals."""
+
+    def __init__(self, wanted):
+        """Keep the demands."""
+        self._wanted = {demand: True for demand in wanted}
+
+    def is_marked(self, rule, spot, name, trail):
+        """Whether the nodes of whole chains of a production at a spot are marked."""
+        return any([demand in self._wanted for demand in rule.chain_demands(spot, name, trail)])
+
+
+class OutsideMarks:
+    """Marked are the nodes that are outside of what the rule is held against."""
+
+    def is_marked(self, rule, spot, name, trail):
+        """Whether the nodes of whole chains of a production at a spot are marked."""
+        return rule.is_outside(spot, name, trail)
+
+
+class NodeMeasure:
+    """A cost is a number of nodes. Costs above `most` are too high, if it is not None."""
+
+    def __init__(self, most=None):
+        """Keep the highest cost."""
+        self._most = most
+
+    def of_node(self):
+        """The cost of a node without its parts."""
+        return 1
+
+    def with_terminal(self, terminal, cost):
+        """The cost with a terminal ahead of the others."""
+        return cost
+
+    def with_part(self, part, cost):
+        """The cost with a part with a cost ahead of the others."""
+        return part + cost
+
+    def is_too_high(self, cost):
+        """Whether a cost is above the highest one."""
+        return self._most is not None and cost > self._most
+
+
+class TextMeasure:
+    """A cost is a pair of the length of a text and the text. Lengths above `most` are too high."""
+
+    def __init__(self, most):
+        """Keep the greatest length."""
+        self._most = most
+
+    def of_node(self):
+        """The cost of a node without its parts."""
+        return 0, ()
+
+    def with_terminal(self, terminal, cost):
+        """The cost with a terminal ahead of the others."""
+        return cost[0] + 1, (terminal, *cost[1])
+
+    def with_part(self, part, cost):
+        """The cost with a part with a cost ahead of the others."""
+        return part[0] + cost[0], part[1] + cost[1]
+
+    def is_too_high(self, cost):
+        """Whether a cost is above the highest one."""
+        return cost[0] > self._most
+
+
+class Search:
+    """All firsts of all spots to which the spot of the whole tree leads, and a cheapest tree for each.
+
+    Rows with costs that are too high are left out.
     """
 
-    def __init__(self, rule, limit, wanted, most=None):
+    def __init__(self, rule, limit, marks, measure):
         """Search on until all is found."""
         self._rule = rule
         self._limit = limit
-        self._wanted = wanted
-        self._most = most
+        self._marks = marks
+        self._measure = measure
         self._spots = []
         self._numbers = {}
         self._trails = {}
@@ -57,17 +132,14 @@ class Search:
             trail = self._rule.trail(spot, name)
             if trail is not None:
                 self._trails[(number, name)] = trail
-                mark = self._is_wanted(self._rule.reduction(spot, name, trail)) if self._wanted else False
-                self._add(1, (number, name, len(self._rule.body_of(name)), "", mark), None)
+                mark = self._marks.is_marked(self._rule, spot, name, trail)
+                row = (number, name, len(self._rule.body_of(name)), "", mark)
+                self._add(self._measure.of_node(), row, None)
         return number
-
-    def _is_wanted(self, demand):
-        """Whether a demand is looked for."""
-        return demand in self._wanted
 
     def _add(self, cost, row, origin):
         """Add a row, if it is cheaper than before, with what it comes from."""
-        if self._most is not None and cost > self._most:
+        if self._measure.is_too_high(cost):
             return
         if row not in self._costs or cost < self._costs[row]:
             self._costs[row] = cost
@@ -84,8 +156,8 @@ class Search:
         state = self._trails[(number, name)][dot - 1]
         if not is_nonterminal(symbol):
             if self._rule.lets_shift(state, symbol):
-                seen = mark or (bool(self._wanted) and self._is_wanted(((state, symbol), "shift")))
-                self._add(cost, (number, name, dot - 1, symbol, seen), (row, None))
+                wider = (number, name, dot - 1, symbol, mark)
+                self._add(self._measure.with_terminal(symbol, cost), wider, (row, None))
             return
         spot = self._spots[number]
         ahead = self._rule.ahead_of(spot) if first == "" else first
@@ -109,7 +181,7 @@ class Search:
         number, name, dot, first, mark = row
         own, own_mark = end
         wider = (number, name, dot - 1, first if own == "" else own, mark or own_mark)
-        self._add(cost + self._done[inner][end][0], wider, (row, (inner, end)))
+        self._add(self._measure.with_part(self._done[inner][end][0], cost), wider, (row, (inner, end)))
 
     def firsts(self):
         """The dict from all spots that were found to the ascending tuples of their firsts; its keys ascend."""
@@ -119,13 +191,16 @@ class Search:
             found[spot] = tuple(sorted(set([first for first, mark in ends])))
         return found
 
-    def least_tree(self, is_marked):
-        """A least whole tree, if asked for one with a demand that is looked for, or None."""
+    def least(self, with_mark):
+        """The least cost of a whole tree, if asked for with a mark, and what tells the tree, or None."""
         ends = self._done[0]
-        choices = [(ends[end][0], end) for end in ends if end[1] or not is_marked]
-        if not choices:
-            return None
-        return self._tree(min(choices)[1])
+        choices = [(ends[end][0], end) for end in ends if end[1] or not with_mark]
+        return min(choices) if choices else None
+
+    def least_tree(self, with_mark):
+        """A cheapest whole tree, if asked for with a mark, or None."""
+        found = self.least(with_mark)
+        return None if found is None else self._tree(found[1])
 
     def _tree(self, end):
         """The whole tree with this end that was found."""

@@ -120,13 +120,17 @@ def demanded(table, tree, path):
     return row_at(table, tree, path)[2]
 
 
+def lacking(parser, told):
+    """The tuple of those demands of a row that the resolution of a parser does not have."""
+    resolution = parser.resolution
+    return tuple([(cell, action) for cell, action in told if resolution.get(cell) != action])
+
+
 def missing(parser, tree):
     """The ascending tuple of the demands of the tree that the resolution of the parser does not have."""
     check_parser(parser)
     check_whole_tree(parser.grammar, tree)
-    resolution = parser.resolution
-    return tuple([(cell, action) for cell, action in tree_demands(parser.table, tree)
-                  if resolution.get(cell) != action])
+    return lacking(parser, tree_demands(parser.table, tree))
 
 
 def is_built(parser, tree):

@@ -52,6 +52,10 @@ class Layers:
         inner = self._firsts.get(self._part(dot, first), ())
         return [first if each == "" else each for each in inner]
 
+    def production(self):
+        """The name of the production."""
+        return self._name
+
     def is_whole(self):
         """Whether some chain is whole."""
         return len(self._rows[0]) > 0
@@ -97,3 +101,37 @@ class Layers:
             for wider in self._wider(dot, first):
                 found[(wider, added + parts)] = True
         return list(found)
+
+    def has_first(self, first):
+        """Whether some whole chain has this first."""
+        return first in self._rows[0]
+
+    def links(self, dot, first):
+        """The list of (first, part): how chains that have a first from a dot on go on through the symbol behind it.
+
+        The first is the one behind this symbol. The part is a pair of the spot and the first of a nonterminal,
+        or None. Each chain that comes to the first behind the symbol can go on so.
+        """
+        if not is_nonterminal(self._body[dot]):
+            return [(behind, None) for behind in self._rows[dot + 1] if first in self._wider(dot, behind)]
+        found = []
+        for behind in self._rows[dot + 1]:
+            part = self._part(dot, behind)
+            found.extend([(behind, (part, own)) for own in self._firsts.get(part, ())
+                          if (behind if own == "" else own) == first])
+        return found
+
+    def used_parts(self, first):
+        """The list of the pairs of a spot and a first with which whole chains with this first go on at their parts."""
+        found = []
+        heads = [first]
+        for dot in range(len(self._body)):
+            links = [link for head in heads for link in self.links(dot, head)]
+            found.extend([part for behind, part in links if part is not None])
+            heads = list({behind: True for behind, part in links})
+        return found
+
+
+def all_layers(rule, spot, firsts):
+    """The list of the layers of all productions at a spot."""
+    return [Layers(rule, spot, name, firsts) for name in rule.names_below(rule.symbol_of(spot))]

@@ -3,7 +3,7 @@
 from chosentrees.base.trees import MAX_NODES, is_whole_tree
 from chosentrees.errors import InvalidOperation, InvalidWishes, TooMany
 from chosentrees.table.levels import check_table, is_resolution
-from chosentrees.wish.closing import Search
+from chosentrees.wish.closing import DemandMarks, NodeMeasure, Search
 from chosentrees.wish.filters import Wishes
 from chosentrees.wish.labels import accept_demand, all_demands, clashing_cells, resolution_of, tree_demands
 from chosentrees.wish.rules import FilterRule
@@ -51,8 +51,7 @@ def allowed_tree(table, wishes, demand):
         return None
     # Each whole tree has the demand of its end, but no node and no terminal of it has.
     is_marked = demand != accept_demand(table)
-    search = Search(rule, MAX_SPOTS, {demand: True} if is_marked else {}, MAX_NODES)
-    return search.least_tree(is_marked)
+    return Search(rule, MAX_SPOTS, DemandMarks((demand,)), NodeMeasure(MAX_NODES)).least_tree(is_marked)
 
 
 def wanted_tree(table, wishes, demand):

@@ -117,6 +117,10 @@ class FilterRule(Rule):
         """The demand of a node by its spot and trail."""
         return (trail[-1], spot[2]), name
 
+    def is_outside(self, spot, name, trail):
+        """Whether a node with this production and spot is barred by the filter, which a parser does not heed."""
+        return is_barred(spot[3:], name)
+
     def chain_demands(self, spot, name, trail):
         """The ascending tuple of the demands of whole chains of a production at a spot, all the same."""
         found = [((trail[index], symbol), "shift") for index, symbol in enumerate(self._bodies[name])
@@ -132,9 +136,10 @@ class PairRule(Rule):
     """
 
     def __init__(self, parser, other):
-        """Keep the resolution of the first parser, and the table of the other one."""
+        """Keep the resolution of the first parser, and the table and the resolution of the other one."""
         Rule.__init__(self, parser.table, parser.resolution)
         self._other_table = other.table
+        self._other_resolution = other.resolution
 
     def whole_spot(self):
         """The spot of the whole tree."""
@@ -172,3 +177,15 @@ class PairRule(Rule):
     def part_spot(self, spot, name, index, state, ahead):
         """The spot of a part of a node, by its states ahead and its next."""
         return (*state, self._bodies[name][index], ahead)
+
+    def other_accepts(self):
+        """Whether the other parser has "accept" where whole trees end."""
+        cell, action = accept_demand(self._other_table)
+        return self._other_resolution.get(cell) == action
+
+    def is_outside(self, spot, name, trail):
+        """Whether the other parser lacks a demand of a node with this production and spot, or of its terminals."""
+        if self._other_resolution.get((trail[-1][1], spot[3])) != name:
+            return True
+        return any([self._other_resolution.get((trail[index][1], symbol)) != "shift"
+                    for index, symbol in enumerate(self._bodies[name]) if symbol in self._grammar.terminals])

@@ -3,10 +3,10 @@
 from chosentrees.base.integers import is_ascending
 from chosentrees.errors import InvalidFilter, InvalidOperation, UnknownName
 from chosentrees.table.levels import check_table
-from chosentrees.wish.closing import Search
+from chosentrees.wish.closing import NodeMeasure, NoMarks, Search
 from chosentrees.wish.filters import Filter
 from chosentrees.wish.labels import accept_demand, check_parser
-from chosentrees.wish.layers import Layers
+from chosentrees.wish.layers import Layers, all_layers
 from chosentrees.wish.rules import FilterRule, PairRule
 
 MAX_SPOTS = 20000
@@ -41,11 +41,6 @@ def pair_rule(parser, other):
     return PairRule(parser, other)
 
 
-def all_layers(rule, spot, firsts):
-    """The list of the layers of all productions at a spot."""
-    return [Layers(rule, spot, name, firsts) for name in rule.names_below(rule.symbol_of(spot))]
-
-
 def least_spots(rule, firsts):
     """The ascending tuple of the spots of a survey, by the firsts of the least one."""
     whole = rule.whole_spot()
@@ -65,7 +60,7 @@ def least_spots(rule, firsts):
 
 def least_survey(rule):
     """The least survey that is closed for a rule."""
-    firsts = Search(rule, MAX_SPOTS, {}).firsts()
+    firsts = Search(rule, MAX_SPOTS, NoMarks(), NodeMeasure()).firsts()
     return firsts, least_spots(rule, firsts)
 
 
@@ -168,10 +163,9 @@ def survey_demands(rule, table, survey):
     firsts, spots = survey
     found = {}
     for spot in spots:
-        for name in rule.names_below(rule.symbol_of(spot)):
-            layers = Layers(rule, spot, name, firsts)
+        for layers in all_layers(rule, spot, firsts):
             if layers.is_whole():
-                for demand in rule.chain_demands(spot, name, layers.trail()):
+                for demand in rule.chain_demands(spot, layers.production(), layers.trail()):
                     found[demand] = True
     if spots:
         found[accept_demand(table)] = True

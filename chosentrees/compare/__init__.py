@@ -1,0 +1,1 @@
+"""Parsers compared, the cells that runs meet, and grammars written out."""
