@@ -2,6 +2,7 @@
 
 import itertools
 import unittest
+from math import comb
 
 from chosentrees.base.grammars import Grammar
 from chosentrees.base.trees import all_trees, count_trees, is_tree, text_of
@@ -84,6 +85,86 @@ class TestOrderAndNumber(unittest.TestCase):
         grammar = Grammar.from_lines("a: S -> A A", "b: A -> B B", "c: A -> a", "d: B ->", "e: B -> b")
         for text in ((), ("a",), ("b",), ("b", "b"), ("b", "b", "b"), ("a", "b")):
             self.assertEqual(list(all_trees(grammar, text)), plain_trees.trees(grammar, "S", text))
+
+
+def length_counts(grammar, most):
+    """A dict from nonterminals to the numbers of trees by lengths, for grammars with one terminal and no empty texts."""
+    counts = {symbol: [0] * (most + 1) for symbol in grammar.nonterminals}
+    for many in range(1, most + 1):
+        for symbol in grammar.nonterminals:
+            counts[symbol][many] = sum(row_count(grammar[name][2], many, counts) for name in grammar.of(symbol))
+    return counts
+
+
+def row_count(body, many, counts, known=None):
+    """The number of ways to take trees with so many terminals together for a row of symbols."""
+    if not body:
+        return int(many == 0)
+    known = {} if known is None else known
+    if (len(body), many) not in known:
+        known[(len(body), many)] = sum(
+            (counts[body[0]][first] if body[0].isupper() else int(first == 1)) * row_count(body[1:], many - first, counts, known)
+            for first in range(1, many - len(body) + 2))
+    return known[(len(body), many)]
+
+
+class TestLongTexts(unittest.TestCase):
+    """Long texts with very many trees, of which only the number or the first ones are asked for."""
+
+    def setUp(self):
+        self.grammar = Grammar.from_lines("one: S -> x", "two: S -> S S", "three: S -> S S S", "five: S -> S S S S S")
+
+    def test_numbers(self):
+        counts = length_counts(self.grammar, 60)["S"]
+        for many in (0, 1, 2, 3, 5, 10, 20, 40, 59, 60):
+            self.assertEqual(count_trees(self.grammar, ("x",) * many), counts[many])
+        wide = Grammar.from_lines("a: S -> x S x", "b: S -> S x S", "c: S -> x x", "d: S -> x")
+        self.assertEqual([count_trees(wide, ("x",) * many) for many in range(30)], length_counts(wide, 29)["S"])
+
+    def test_numbers_with_parts_without_terminals(self):
+        plain = Grammar.from_lines("one: S -> A A A A A", "two: A -> a", "three: A -> a A")
+        empty = Grammar.from_lines("one: S -> A A A A A", "two: A ->", "three: A -> a A")
+        # The rows of five numbers with a sum, all of them at least 1, or at least 0.
+        for many in (5, 9, 30, 60):
+            self.assertEqual(count_trees(plain, ("a",) * many), comb(many - 1, 4))
+            self.assertEqual(count_trees(empty, ("a",) * many), comb(many + 4, 4))
+        twice = Grammar.from_lines("s: S -> N N T", "n: N ->", "o: N -> O", "p: O ->", "t: T -> N t", "u: T -> t T")
+        self.assertEqual([count_trees(twice, ("t",) * many) for many in (0, 1, 2, 60)], [0, 8, 8, 8])
+        for text in (("t",), ("t", "t"), ("t", "t", "t")):
+            self.assertEqual(list(all_trees(twice, text)), plain_trees.trees(twice, "S", text))
+
+    def test_the_whole_order(self):
+        for many in (6, 7):
+            wanted = plain_trees.trees(self.grammar, "S", ("x",) * many)
+            self.assertEqual(list(all_trees(self.grammar, ("x",) * many)), wanted)
+
+    def test_the_first_trees(self):
+        one = ("one", ("x",))
+        made = all_trees(self.grammar, ("x",) * 60)
+        tree = next(made)
+        wanted = one
+        for _ in range(59):
+            wanted = ("two", (one, wanted))
+        self.assertEqual(plain_trees.text(tree), ("x",) * 60)
+        at, other = tree, wanted
+        while at[0] == "two":
+            self.assertEqual((at[0], at[1][0]), (other[0], other[1][0]))
+            at, other = at[1][1], other[1][1]
+        self.assertEqual(at, one)
+        # The next ones differ at the last place where there is another way: other lengths, then another production.
+        for last in (("two", (("two", (one, one)), one)), ("three", (one, one, one))):
+            part = next(made)
+            for _ in range(57):
+                self.assertEqual((part[0], part[1][0]), ("two", one))
+                part = part[1][1]
+            self.assertEqual(part, last)
+
+    def test_many_of_them(self):
+        for at in range(60):
+            text = ("n",) + ("+", "n") * (29 - at % 5)
+            self.assertEqual(count_trees(SUMS, text), catalan(29 - at % 5))
+            self.assertEqual(next(all_trees(SUMS, text))[0], "plus")
+            self.assertEqual(len(list(itertools.islice(all_trees(self.grammar, ("x",) * (60 - at % 7)), 3))), 3)
 
 
 class TestErrors(unittest.TestCase):

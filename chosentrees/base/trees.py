@@ -1,6 +1,8 @@
 """Trees, their texts and paths, and all trees of a text."""
 
 from chosentrees.base.charts import Chart
+from chosentrees.base.counts import TreeCounts
+from chosentrees.base.forests import forest_trees
 from chosentrees.base.grammars import Grammar
 from chosentrees.base.integers import is_index
 from chosentrees.base.symbols import is_nonterminal, is_terminals
@@ -147,7 +149,7 @@ def count_trees(grammar, text):
     """The number of the trees of the grammar with this text."""
     check_grammar(grammar)
     check_text(grammar, text)
-    return Chart(grammar, text).tree_count()
+    return TreeCounts(grammar, text).whole(grammar.start)
 
 
 def all_trees(grammar, text):
@@ -155,5 +157,4 @@ def all_trees(grammar, text):
     check_grammar(grammar)
     check_text(grammar, text)
     chart = Chart(grammar, text)
-    for rank in range(chart.tree_count()):
-        yield chart.tree(rank)
+    yield from forest_trees(chart)

@@ -8,7 +8,7 @@ or something behind the dot, is marked. A row with the dot 0 is a whole chain.
 
 from heapq import heappop, heappush
 
-from chosentrees.base.charts import folded
+from chosentrees.base.forests import folded
 from chosentrees.base.symbols import is_nonterminal
 from chosentrees.errors import TooMany
 

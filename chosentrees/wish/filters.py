@@ -1,6 +1,7 @@
 """Filters, which forbid parts of trees, and wishes."""
 
 from chosentrees.base.charts import Chart
+from chosentrees.base.forests import forest_trees
 from chosentrees.base.symbols import is_nonterminal
 from chosentrees.base.trees import check_grammar, check_text, check_tree, is_whole_tree, part_below, placed
 from chosentrees.errors import InvalidFilter, InvalidOperation, InvalidTree, InvalidWishes
@@ -84,8 +85,7 @@ class Filter:
         check_text(grammar, text)
         self._check_fits(grammar)
         chart = Chart(grammar, text, self._bars)
-        for rank in range(chart.tree_count()):
-            yield chart.tree(rank)
+        yield from forest_trees(chart)
 
     def __contains__(self, x):
         """Whether the value is a bar of the filter."""
