@@ -1,4 +1,4 @@
-"""The examples that the document prints, stages 1 to 14."""
+"""The examples that the document prints, stages 1 to 18."""
 
 import unittest
 
@@ -8,10 +8,15 @@ from chosentrees.base.symbols import (END, is_before, is_name, is_nonterminal, i
 from chosentrees.base.trees import all_trees, count_trees, is_tree, part_at, paths, size_of, text_of
 from chosentrees.compare.compared import are_alike, comparison_paper, inclusion_paper, kinds_alike, least_outside, least_parting
 from chosentrees.compare.met import cells_met, endless_text, lost_texts, refusing, text_to
-from chosentrees.errors import InvalidGrammar
+from chosentrees.compare.written import readings, written_out
+from chosentrees.errors import InvalidGrammar, ParseError, Refused
+from chosentrees.project.project import Project
 from chosentrees.run.parsers import Parser
 from chosentrees.table.levels import Levels, is_contained, settled
 from chosentrees.table.tables import KINDS, Table
+from chosentrees.text.shell import Shell
+from chosentrees.text.texts import (read_filter, read_resolution, read_tree, write_filter, write_grammar, write_levels,
+                                    write_resolution, write_tree)
 from chosentrees.wish.exact import can_be_exact, is_exact, least_beyond, missed_paper, within_paper
 from chosentrees.wish.filters import Filter, Wishes, edge
 from chosentrees.wish.labels import clash, demanded, demands, is_built, label, least_of, missing
@@ -213,6 +218,51 @@ class TestParsersAgainstWishesAndParsers(unittest.TestCase):
             [('if', 'x', 'else'), False, 22, 9, None, ('c',)])
         self.assertEqual(list(lost_texts(Parser(Table(ELSE), {**near.resolution, (4, "else"): "cond"}), most=5)),
                          [('if', 'x', 'else', 'x'), ('if', 'if', 'x', 'else', 'x'), ('if', 'x', 'else', 'if', 'x')])
+
+
+class TestGrammarsProjectsAndTexts(unittest.TestCase):
+    def test_the_grammar_written_out(self):
+        starts, rows = written_out(near)
+        self.assertEqual([starts, [name for label, name, parts in rows if label[:2] == (0, "S")]],
+                         [((0, 'S', 'if', '$'), (0, 'S', 'x', '$')), ['both', 'both', 'both', 'both', 'cond', 'cond', 'act']])
+        self.assertEqual(
+            [list(readings(ELSE, (starts, rows), ("if", "if", "x", "else", "x"))) == [NEAR], list(readings(ELSE, (starts, rows), ("if",)))],
+            [True, []])
+
+    def test_a_project(self):
+        project = Project(ELSE)
+        self.assertEqual(
+            [project.allow(DANGLING), project.keep(("if", "x", "else", "x")), project.parser == near, project.add(("loop", "S", ("while", "S")))],
+            [None, None, True, None])
+        self.assertEqual(
+            [str(project), project.change(), project.log, project.undo(many=2), project.change(), list(project)],
+            ['project of 4 productions, 0 trees, 1 texts', None, ('allow', 'keep', 'add'), 1, None, []])
+        with self.assertRaises(Refused):
+            project.want(FAR)
+
+    def test_texts(self):
+        self.assertEqual(
+            [write_tree(ELSE, NEAR), read_tree(ELSE, "cond if act x"), write_grammar(NEST).split("\n")[2], read_filter(write_filter(USUAL)) == USUAL],
+            ['cond if both if act x else act x', ('cond', ('if', ('act', ('x',)))), 'none: A ->', True])
+        self.assertEqual(
+            [write_resolution({(8, "+"): "plus", (3, "$"): "accept"}), write_levels(Levels((("left", ("+", "-")), ("none", ())), own={"neg": None}))],
+            ['3 $ accept\n8 + plus', 'left + -\nnone\nown neg -'])
+        with self.assertRaises(ParseError):
+            read_resolution("8 + plus\n3 $ accept")
+
+    def test_texts_in_the_words_of_the_document(self):
+        tree = ("plus", (("num", ("n",)), "+", ("num", ("n",))))
+        self.assertEqual([write_tree(SUMS, tree), write_resolution({(8, "+"): "plus"}), write_filter(Filter((("child", "neg", 1, "plus"),)))],
+                         ["plus num n + num n", "8 + plus", "child neg 1 plus"])
+        self.assertEqual(write_levels(Levels((("left", ("+",)), ("none", ()), ("none", ())), own={"neg": 2})).split("\n")[3], "own neg 2")
+
+    def test_a_shell(self):
+        shell = Shell(Project(ELSE))
+        self.assertEqual(
+            [shell(line) for line in ("clashes ", "allow right both 1 cond", "parse if if x else x", "keep if x", "lost 5", "demands act x", "undo 1")],
+            ['4 else', 'done', 'cond if both if act x else act x', 'done', '-', '0 x shift, 2 $ act, 3 $ accept', '1'])
+        with self.assertRaises(Refused):
+            shell("want both if cond if act x else act x")
 
 
 if __name__ == "__main__":

@@ -28,6 +28,11 @@ INTERFACE = {
     "compare/compared.py": ("inclusion_paper", "is_inclusion_paper", "least_outside", "comparison_paper",
                             "is_comparison_paper", "least_parting", "are_alike", "kinds_alike"),
     "compare/met.py": ("cells_met", "refusing", "text_to", "endless_text", "lost_texts"),
+    "compare/written.py": ("MAX_ROWS", "written_out", "readings", "label_count"),
+    "project/project.py": ("MAX_KEPT", "MAX_STEPS", "Project"),
+    "text/texts.py": ("write_grammar", "read_grammar", "write_tree", "read_tree", "write_resolution", "read_resolution",
+                      "write_filter", "read_filter", "write_levels", "read_levels"),
+    "text/shell.py": ("Shell",),
 }
 METHODS = {
     ("base/grammars.py", "Grammar"): (
@@ -48,6 +53,11 @@ METHODS = {
         "__and__", "__sub__", "is_part_of", "fits", "broken", "allows", "allowed"),
     ("wish/filters.py", "Wishes"): (
         "__init__", "bars", "trees", "__eq__", "__len__", "__str__", "__add__", "fit", "wants"),
+    ("project/project.py", "Project"): (
+        "__init__", "want", "drop", "allow", "add", "__iadd__", "use", "keep", "release", "grammar", "kind", "wishes",
+        "table", "resolution", "parser", "kept", "log", "change", "levels", "undo", "redo", "trial", "during", "twin",
+        "__contains__", "__len__", "__iter__", "__eq__", "__str__"),
+    ("text/shell.py", "Shell"): ("__init__", "__call__", "do", "results", "project", "log"),
 }
 LIBRARY = ("heapq", "math", "itertools", "collections")
 BUILTINS = ("len range enumerate zip min max sum abs sorted reversed int str bool bytes list tuple dict set frozenset "
@@ -163,7 +173,7 @@ class TestSubset(unittest.TestCase):
         self.trees = [(path, ast.parse(text)) for path, text in files()]
 
     def test_no_generator_expressions_and_no_annotations(self):
-        unused = (ast.GeneratorExp, ast.AnnAssign, ast.Match, ast.Try, ast.With, ast.NamedExpr)
+        unused = (ast.GeneratorExp, ast.AnnAssign, ast.Match, ast.NamedExpr, ast.Nonlocal)
         for path, tree in self.trees:
             for node in ast.walk(tree):
                 self.assertNotIsInstance(node, unused, path)
@@ -315,6 +325,61 @@ def changed_loops(function):
             if over & set(inner):
                 found.append(node.lineno)
     return found
+
+
+COMPREHENSIONS = (ast.ListComp, ast.SetComp, ast.DictComp, ast.GeneratorExp)
+
+
+def names_within(node):
+    """The names that stand in an expression."""
+    return {each.id for each in ast.walk(node) if isinstance(each, ast.Name)}
+
+
+def own_names(function):
+    """The parameters of a function, and the names that it assigns outside of comprehensions."""
+    rows = function.args
+    found = {each.arg for each in rows.args + rows.kwonlyargs + [each for each in (rows.vararg, rows.kwarg) if each]}
+    waiting = list(function.body)
+    while waiting:
+        node = waiting.pop()
+        if not isinstance(node, COMPREHENSIONS):
+            found |= {node.id} if isinstance(node, ast.Name) and isinstance(node.ctx, ast.Store) else set()
+            waiting += list(ast.iter_child_nodes(node))
+    return found
+
+
+def inner_names(node, outer=None):
+    """The names of comprehensions that stand in other ones, with the names of those."""
+    found = []
+    for each in ast.iter_child_nodes(node):
+        if isinstance(each, COMPREHENSIONS):
+            names = set().union(*[names_within(part.target) for part in each.generators])
+            found += [(names, outer)] if outer is not None else []
+            found += inner_names(each, (outer or set()) | names)
+        else:
+            found += inner_names(each, outer)
+    return found
+
+
+class TestNames(unittest.TestCase):
+    """No name stands for two things near to each other."""
+
+    def test_comprehensions_within_others(self):
+        for path, text in files():
+            for node in ast.walk(ast.parse(text)):
+                if isinstance(node, ast.FunctionDef):
+                    for names, outer in inner_names(node):
+                        self.assertEqual(names & (own_names(node) | outer), set(), (path, node.name))
+
+    def test_what_a_file_imports_or_defines(self):
+        for path, text in files():
+            tree = ast.parse(text)
+            told = {each.name for node in ast.walk(tree) if isinstance(node, ast.ImportFrom) for each in node.names}
+            told |= set(defined(tree))
+            for node in ast.walk(tree):
+                if isinstance(node, ast.FunctionDef):
+                    stored = {each.id for each in ast.walk(node) if isinstance(each, ast.Name) and isinstance(each.ctx, ast.Store)}
+                    self.assertEqual((own_names(node) | stored) & told, set(), (path, node.name))
 
 
 class TestLoops(unittest.TestCase):

@@ -124,4 +124,4 @@ def kinds_alike(grammar, levels):
             near[0].append(parser)
         else:
             groups.append([parser])
-    return tuple([tuple([parser.table.kind for parser in group]) for group in groups])
+    return tuple([tuple([each.table.kind for each in group]) for group in groups])

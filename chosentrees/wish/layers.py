@@ -131,6 +131,20 @@ class Layers:
             heads = list({behind: True for behind, part in links})
         return found
 
+    def used_rows(self, first, limit):
+        """The list of the different rows of parts with which whole chains with this first go on.
+
+        A part is a terminal, or the pair of a spot and a first. If there are more rows than the limit, some are
+        left out, but not so many that there are not more than the limit.
+        """
+        rows = [((), first)]
+        for dot, symbol in enumerate(self._body):
+            links = {head: self.links(dot, head) for parts, head in rows}
+            # Each beginning of a row is that of a whole one, and different ones are those of different ones.
+            rows = [((*parts, symbol if part is None else part), behind) for parts, head in rows
+                    for behind, part in links[head]][:limit + 1]
+        return [parts for parts, behind in rows]
+
 
 def all_layers(rule, spot, firsts):
     """The list of the layers of all productions at a spot."""

@@ -1,0 +1,1 @@
+"""Projects: a grammar with wishes and kept texts, changed step by step."""
