@@ -6,13 +6,23 @@ from chosentrees import errors
 from chosentrees.base import grammars, symbols
 from chosentrees.base.grammars import Grammar, renamed
 from chosentrees.base.trees import all_trees, count_trees, is_tree, part_at, text_of
+from chosentrees.compare.compared import comparison_paper
+from chosentrees.compare.met import cells_met, lost_texts
+from chosentrees.compare.written import written_out
 from chosentrees.errors import (InvalidGrammar, InvalidLevels, InvalidNumber, InvalidOperation, InvalidResolution,
                                 InvalidText, InvalidTree, ParseError, TooMany, UnknownName)
+from chosentrees.project.project import Project
 from chosentrees.run.parsers import Parser
 from chosentrees.table.levels import Levels, common, is_contained, is_resolution, joined, settled
 from chosentrees.table.tables import Table
+from chosentrees.text.shell import Shell
+from chosentrees.text.texts import read_resolution
+from chosentrees.wish.exact import missed_paper, within_paper
+from chosentrees.wish.filters import Filter, Wishes
+from chosentrees.wish.papers import least_resolution
+from chosentrees.wish.ranking import can_fit, free_needed, is_levels_paper, levels_paper
 
-from samples import ELSE, NEAR, NEST, ODD, PAIRS, SUMS
+from samples import DANGLING, ELSE, NEAR, NEST, ODD, PAIRS, SUMS, USUAL
 
 
 class TestJudges(unittest.TestCase):
@@ -177,6 +187,70 @@ class TestSeveralWrongArguments(unittest.TestCase):
                     with self.assertRaises(UnknownName) as caught:
                         Levels().prefers(NEST, two, three)
                     self.assertIs(caught.exception.wanted, two)
+
+
+class TestArguments(unittest.TestCase):
+    """Which arguments are given by their places, and which ones by their names [0.3]."""
+
+    def setUp(self):
+        self.table = Table(ELSE)
+        self.parser = Parser.by(ELSE, Levels())
+
+    def test_keywords_are_keywords(self):
+        table, parser, project = self.table, self.parser, Project(ELSE)
+        for call in (lambda: levels_paper(table, {}, ()), lambda: is_levels_paper(table, {}, None, ()), lambda: can_fit(table, {}, ()),
+                     lambda: free_needed(table, {}, 2), lambda: lost_texts(parser, 3), lambda: Project(ELSE, "lalr"), lambda: project.levels(()),
+                     lambda: project.undo(1), lambda: project.redo(1), lambda: Parser.by(ELSE, Levels(), "lalr"), lambda: Levels((), {})):
+            with self.assertRaises(TypeError):
+                call()
+        with self.assertRaises(TypeError):
+            lost_texts(parser)
+
+    def test_defaults_and_names(self):
+        self.assertEqual((Table(ELSE, kind="slr"), Table(grammar=ELSE, kind="slr").kind), (Table(ELSE, "slr"), "slr"))
+        self.assertEqual((Filter(bars=()), Wishes(bars=None, trees=()), Levels(groups=())), (Filter(), Wishes(), Levels()))
+        self.assertEqual((levels_paper(self.table, {}, free=())[0], can_fit(self.table, {}), free_needed(self.table, {}, most=0)), ("levels", True, ((),)))
+        self.assertEqual((Project(ELSE, kind="lalr"), Project(ELSE).undo(many=0), Project(ELSE).redo(many=0)), (Project(ELSE), 0, 0))
+        self.assertEqual(Project(ELSE).levels(free=()), Levels())
+
+
+class TestObjects(unittest.TestCase):
+    def test_objects_that_are_not_iterated_over(self):
+        project = Project(ELSE)
+        for value in (Table(ELSE), Levels(), Parser.by(ELSE, Levels()), Wishes(), Shell(project), project.trial()):
+            for call in (iter, list, tuple):
+                with self.assertRaises(TypeError):
+                    call(value)
+        self.assertEqual((list(ELSE), list(Filter()), list(project)), (list(ELSE.productions), [], []))
+
+    def test_comparisons_accept_every_value(self):
+        parser = Parser.by(ELSE, Levels())
+        for one in (ELSE, Table(ELSE), Levels(), parser, Filter(), Wishes(), Project(ELSE)):
+            for other in ODD + [Table(SUMS), Levels((("left", ()),)), Parser(Table(SUMS), {}), Filter((("child", "a", 0, "b"),)), Wishes(trees=(NEAR,)),
+                                Project(SUMS)]:
+                if other is not ELSE:
+                    self.assertEqual((one == other, one != other, other == one), (False, True, False))
+            self.assertEqual((one == one, one != one), (True, False))
+
+    def test_equal_calls_return_equal_results(self):
+        parser, project = Parser.by(ELSE, Levels()), Project(ELSE)
+        project.allow(DANGLING)
+        for call in (lambda: within_paper(parser, DANGLING), lambda: missed_paper(parser, Filter()), lambda: levels_paper(parser.table, parser.resolution),
+                     lambda: comparison_paper(parser, parser), lambda: cells_met(parser), lambda: written_out(parser), project.levels, project.change,
+                     lambda: list(lost_texts(parser, most=5)), lambda: str(project), lambda: Shell(project)("clashes ")):
+            self.assertEqual(call(), call())
+
+    def test_returned_dicts_ascend(self):
+        parser = Parser.by(SUMS, Levels())
+        calm = Parser(Table(SUMS), least_resolution(Table(SUMS), Wishes(USUAL)))
+        for kind, value in (("within", within_paper(parser, Filter())), ("alike", comparison_paper(parser, parser)), ("kept", missed_paper(calm, USUAL))):
+            self.assertEqual(value[0], kind)
+            for firsts, spots in value[1:]:
+                self.assertEqual((list(firsts), list(spots)), (sorted(firsts), sorted(spots)))
+        cells = read_resolution("3 $ accept\n8 + plus")
+        self.assertEqual(list(cells), sorted(cells))
+        own = levels_paper(Table(SUMS), {(8, "+"): "plus"}, free=("neg", "num", "plus"))[1].own
+        self.assertEqual(list(own), sorted(own))
 
 
 class TestKindsOfResults(unittest.TestCase):
