@@ -49,7 +49,7 @@ class Pushes:
         self._lookaheads = parser.grammar.terminals + (END,)
         self._measure = measure
         self._with_shifts = with_shifts
-        self._queue = []
+        self._coming = []
         self._costs = {}
         self._overs = {}
         self._callers = {}
@@ -57,9 +57,13 @@ class Pushes:
         for cell in first_cells:
             self._begin(cell)
             self._push(measure.of_node(), ("met", cell))
+        queue = []
         closed = {}
-        while self._queue:
-            cost, fact = heappop(self._queue)
+        while self._coming or queue:
+            for entry in self._coming:
+                heappush(queue, entry)
+            self._coming = []
+            cost, fact = heappop(queue)
             if fact not in closed:
                 closed[fact] = True
                 self._advance(cost, fact)
@@ -70,7 +74,7 @@ class Pushes:
             return
         if fact not in self._costs or cost < self._costs[fact]:
             self._costs[fact] = cost
-            heappush(self._queue, (cost, fact))
+            self._coming.append((cost, fact))
 
     def _begin(self, cell):
         """Add what comes of a cell that is met, if this is its first time."""

@@ -106,15 +106,19 @@ class Search:
         self._trails = {}
         self._waiting = []
         self._done = []
-        self._queue = []
+        self._coming = []
         self._costs = {}
         self._origins = {}
-        self._closed = {}
         self._number(rule.whole_spot())
-        while self._queue:
-            cost, row = heappop(self._queue)
-            if row not in self._closed:
-                self._closed[row] = True
+        queue = []
+        closed = {}
+        while self._coming or queue:
+            for entry in self._coming:
+                heappush(queue, entry)
+            self._coming = []
+            cost, row = heappop(queue)
+            if row not in closed:
+                closed[row] = True
                 self._advance(cost, row)
 
     def _number(self, spot):
@@ -144,7 +148,7 @@ class Search:
         if row not in self._costs or cost < self._costs[row]:
             self._costs[row] = cost
             self._origins[row] = origin
-            heappush(self._queue, (cost, row))
+            self._coming.append((cost, row))
 
     def _advance(self, cost, row):
         """Go through the symbol ahead of the dot of a row, or end it."""
