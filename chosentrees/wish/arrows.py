@@ -63,9 +63,10 @@ def paths_from(begin, arrows):
     waiting = [begin]
     at = 0
     while at < len(waiting):
-        for arrow in ahead.get(waiting[at], []):
+        point = waiting[at]
+        for arrow in ahead.get(point, []):
             if arrow[2] not in found:
-                found[arrow[2]] = (*found[waiting[at]], arrow)
+                found[arrow[2]] = (*found[point], arrow)
                 waiting.append(arrow[2])
         at = at + 1
     return found
