@@ -16,7 +16,7 @@ from chosentrees.wish.surveys import is_pair_survey, pair_survey
 
 import plain_surveys
 from plain_outcomes import Outcomes, long_lines, order
-from samples import ELSE, FAR, NEAR, NEST, ODD, PAIRS, SUMS
+from samples import ELSE, FAR, NEAR, ODD, PAIRS, SUMS
 from small import all_grammars, told_grammars
 from small_filters import EDGES
 from test_surveys import some_parsers
@@ -295,7 +295,6 @@ class TestErrors(unittest.TestCase):
         for call in calls[2:5] + calls[6:]:
             with self.assertRaises(InvalidOperation):
                 call(less, parser)
-        self.assertEqual(len(NEST), 3)
 
 
 if __name__ == "__main__":

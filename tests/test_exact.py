@@ -12,7 +12,6 @@ from chosentrees.table.tables import KINDS, Table
 from chosentrees.wish.exact import (can_be_exact, is_exact, is_missed_paper, is_within_paper, least_beyond,
                                     missed_paper, within_paper)
 from chosentrees.wish.filters import Filter, Wishes
-from chosentrees.wish.labels import is_built
 from chosentrees.wish.papers import least_resolution
 from chosentrees.wish.surveys import filter_survey, is_filter_survey, is_parser_survey, parser_survey
 
@@ -20,7 +19,7 @@ import plain_labels
 import plain_surveys
 import plain_trees
 from plain_outcomes import Outcomes, long_lines
-from samples import DANGLING, ELSE, FAR, NEAR, NEST, ODD, PAIRS, SUMS, USUAL, chain_of, comb_of
+from samples import DANGLING, ELSE, FAR, NEST, ODD, PAIRS, SUMS, USUAL, chain_of, comb_of
 from small import all_grammars, some_texts, told_grammars
 from small_filters import EDGES, some_filters
 from test_papers import deep_grammar
@@ -321,7 +320,6 @@ class TestErrors(unittest.TestCase):
         before = dict(kept[1][0])
         self.assertIs(is_missed_paper(parser, USUAL, kept), True)
         self.assertEqual(kept[1][0], before)
-        self.assertEqual([is_built(parser, NEAR) for parser in (Parser.by(ELSE, Levels()),)], [True])
         self.assertIs(is_missed_paper(Parser.by(ELSE, Levels()), DANGLING, ("missed", FAR)), False)
         self.assertIs(is_missed_paper(Parser.by(ELSE, Levels()), Filter(), ("missed", FAR)), True)
 

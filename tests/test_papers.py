@@ -10,7 +10,7 @@ from chosentrees.run.parsers import Parser
 from chosentrees.table.levels import Levels, is_contained, is_resolution
 from chosentrees.table.tables import KINDS, Table
 from chosentrees.wish.filters import Filter, Wishes
-from chosentrees.wish.labels import demands, is_built, least_of
+from chosentrees.wish.labels import is_built, least_of
 from chosentrees.wish.papers import clashes, is_wishes_paper, least_resolution, tree_demanding, wishes_paper
 from chosentrees.wish.surveys import filter_demands, filter_survey, is_filter_survey
 

@@ -10,7 +10,7 @@ from chosentrees.table.levels import Levels
 from chosentrees.table.tables import KINDS, Table
 
 import plain_trees
-from samples import ELSE, FAR, NEAR, NEST, ODD, SUMS
+from samples import ELSE, FAR, NEAR, ODD, SUMS
 from test_tables import OVER
 
 NEAR_PARSER = Parser.by(ELSE, Levels())

@@ -2,7 +2,6 @@
 
 import unittest
 
-from chosentrees.base.grammars import Grammar
 from chosentrees.errors import InvalidOperation, InvalidResolution
 from chosentrees.table.levels import common, is_contained, is_resolution, joined, settled
 from chosentrees.table.tables import KINDS, Table

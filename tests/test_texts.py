@@ -14,7 +14,7 @@ from chosentrees.text.texts import (read_filter, read_grammar, read_levels, read
 from chosentrees.wish.filters import Filter, Wishes
 
 import plain_trees
-from samples import DANGLING, ELSE, FAR, NEAR, NEST, ODD, PAIRS, SUMS, USUAL, chain_of, comb_of
+from samples import DANGLING, ELSE, FAR, NEST, ODD, SUMS, USUAL, chain_of, comb_of
 from small import all_grammars, some_texts, told_grammars
 from small_filters import all_bars, some_filters
 
@@ -287,7 +287,6 @@ class TestNothingIsShared(unittest.TestCase):
         one, other = read_resolution("8 + plus"), read_resolution("8 + plus")
         one.clear()
         self.assertEqual(other, {(8, "+"): "plus"})
-        self.assertEqual(len(PAIRS) + len(NEAR), 8)
 
 
 if __name__ == "__main__":

@@ -13,7 +13,7 @@ from chosentrees.compare.written import label_count, readings, written_out
 from chosentrees.errors import InvalidGrammar, Refused, TooMany
 from chosentrees.project.project import Project
 from chosentrees.run.parsers import Parser
-from chosentrees.table.levels import Levels, is_contained, joined, settled
+from chosentrees.table.levels import is_contained, joined, settled
 from chosentrees.table.tables import KINDS, Table
 from chosentrees.text.shell import Shell
 from chosentrees.text.texts import (read_filter, read_grammar, read_levels, read_resolution, read_tree, write_filter,
@@ -25,7 +25,7 @@ from chosentrees.wish.papers import clashes, is_wishes_paper, least_resolution, 
 from chosentrees.wish.ranking import can_fit, free_needed, is_levels_paper, levels_paper
 from chosentrees.wish.surveys import filter_survey, pair_survey, parser_survey
 
-from samples import DANGLING, ELSE, FAR, NEAR, NEST, PAIRS, SUMS, USUAL
+from samples import DANGLING, ELSE, NEAR, PAIRS, SUMS, USUAL
 from small import some_texts, told_grammars
 from small_filters import EDGES, some_filters
 from test_compared import turned
@@ -306,7 +306,6 @@ class TestTextsThatCarryAll(unittest.TestCase):
             levels = read_levels(write_levels(project.levels()))
             self.assertEqual(kinds_alike(grammar, levels), (("lalr", "lr0", "lr1", "slr"),))
             self.assertIs(are_alike(project.parser, Parser.by(grammar, levels)), True)
-        self.assertEqual([len(NEST), FAR[0]], [3, "both"])
 
 
 if __name__ == "__main__":

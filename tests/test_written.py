@@ -16,7 +16,7 @@ from chosentrees.table.tables import KINDS, Table
 import plain_labels
 from plain_outcomes import Outcomes
 from plain_rows import labels_by, tree_rows
-from samples import ELSE, FAR, NEAR, NEST, ODD, PAIRS, SUMS
+from samples import ELSE, NEAR, NEST, ODD, PAIRS, SUMS
 from small import all_grammars, some_texts, told_grammars
 from small_filters import EDGES
 from test_surveys import some_parsers
@@ -233,7 +233,6 @@ class TestErrors(unittest.TestCase):
         made = readings(NEST, (((0, "A", "", "c"),), ()), ("c",))
         with self.assertRaises(InvalidOperation):
             next(made)
-        self.assertEqual(len(FAR), 2)
 
 
 if __name__ == "__main__":

@@ -5,7 +5,7 @@ from chosentrees.base.trees import is_text
 from chosentrees.errors import InvalidOperation
 from chosentrees.run.parsers import Parser
 from chosentrees.table.tables import KINDS
-from chosentrees.wish.labels import check_parser, lacking, tree_demands
+from chosentrees.wish.labels import lacking, tree_demands
 from chosentrees.wish.surveys import is_closed, least_survey, pair_rule
 from chosentrees.wish.used import has_used_outside, is_paper_form, least_text, short_text
 
